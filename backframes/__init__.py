@@ -1,0 +1,1 @@
+"""Backframes: code with frame states, judged beside the source that it was made from."""

@@ -1,0 +1,81 @@
+"""The interface as the document lists it: names, arguments, and where each one is defined."""
+
+import importlib
+import inspect
+import unittest
+
+INTERFACE = {
+    "source": {"Source": ("classes, functions", ["classes()", "functions()", "__eq__(other)"])},
+    "code": {
+        "Code": (
+            "source, function, blocks",
+            ["owner()", "blocks()", "points()", "place(point)", "kinds()", "usable(point)", "__eq__(other)"],
+        ),
+    },
+    "machine": {
+        "Machine": (
+            "source, name, arguments",
+            ["step()", "steps(many)", "rows()", "ended()", "frames()", "log()", "heap()", "state()"],
+        ),
+        "State": ("source, frames, heap", ["frames()", "heap()", "__eq__(other)"]),
+        "going_on": "state",
+        "outcome": "source, name, arguments",
+        "finished": "machine",
+    },
+    "wanted": {
+        "wanted": "source, name, row",
+        "wanted_at_call": "source, name, row",
+        "wanting": "source, name, row, variable",
+    },
+    "frames": {
+        "FrameState": (
+            "code, point, frames, *, unmade, own, claims",
+            ["frames()", "claims()", "registers()", "unmade()", "own()", "__eq__(other)"],
+        ),
+        "built": "state, registers, heap",
+        "Backs": ("code, states", ["state_at(point)", "states()", "__eq__(other)"]),
+    },
+    "kept": {
+        "live": "code, point",
+        "serves": "backs, point, registers",
+        "least_kept": "backs, point, *, weights=None",
+        "farthest_kept": "backs, point, *, weights=None",
+        "kept_paths": "backs, point",
+        "shows": "backs, point, paths",
+        "restated": "backs, point, registers",
+        "made_for": "backs",
+    },
+}
+
+
+def arguments_of(function):
+    return str(inspect.signature(function))[1:-1]
+
+
+class TestInterface(unittest.TestCase):
+    def test_each_name_is_defined_in_its_module_with_its_arguments(self):
+        for module_name, names in INTERFACE.items():
+            module = importlib.import_module(f"backframes.{module_name}")
+            for name, told in names.items():
+                thing = getattr(module, name)
+                self.assertEqual(thing.__module__, module.__name__, name)
+                if isinstance(told, str):
+                    self.assertEqual(arguments_of(thing), told, name)
+
+    def test_each_class_has_its_methods_itself(self):
+        for module_name, names in INTERFACE.items():
+            module = importlib.import_module(f"backframes.{module_name}")
+            for name, told in names.items():
+                if isinstance(told, str):
+                    continue
+                thing = getattr(module, name)
+                self.assertEqual(arguments_of(thing), told[0], name)
+                for method in told[1]:
+                    method_name, rest = method[:-1].split("(")
+                    self.assertIn(method_name, vars(thing))
+                    expected = ", ".join(["self"] + ([rest] if rest else []))
+                    self.assertEqual(arguments_of(vars(thing)[method_name]), expected, method)
+
+
+if __name__ == "__main__":
+    unittest.main()
