@@ -4,6 +4,7 @@ from backframes.codeforms import ROW_WORDS, end_goals, end_uses, is_end, made_ki
 from backframes.codegraph import block_goals, blocks_above, circle_without, reached_from
 from backframes.errors import InvalidCode, InvalidNumber, InvalidSource
 from backframes.plain import are_named_kinds, frozen, is_integer, is_list_of, is_tuple_of
+from backframes.registers import read_behind, rows_again
 from backframes.rowforms import is_row, row_kinds_fit, row_reads, row_sets
 from backframes.source import Source
 
@@ -38,6 +39,9 @@ class Code:
         self._check_reached()
         self._check_uses()
         self._check_circles()
+        self._again = rows_again(self._blocks)
+        self._living = {}
+        self._standing = {}
 
     def _take_block(self, k, block):
         if not _is_head(block) or not self._are_new(block[0]):
@@ -145,7 +149,23 @@ class Code:
 
     def usable(self, point):
         k, r = self.place(point)
-        return sorted(self._made_ahead(k, r))
+        if point not in self._standing:
+            self._standing[point] = tuple(sorted(self._made_ahead(k, r)))
+        return list(self._standing[point])
+
+    def living(self, point):
+        """The sorted list of the registers that are read behind a point before they are made anew.
+
+        They are looked for once, for all points, when they are asked for: code never changes.
+        """
+        self.place(point)
+        if len(self._living) == 0:
+            self._living = read_behind(self._blocks, {})
+        return list(self._living[point])
+
+    def again_rows(self):
+        """A dict with the rows of all registers that can be computed again."""
+        return dict(self._again)
 
     def __eq__(self, other):
         return (

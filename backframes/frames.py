@@ -6,6 +6,7 @@ from backframes.machine import State
 from backframes.moments import are_stacked, check_heap
 from backframes.plain import is_integer, is_integer_in, is_list_of, is_tuple_of
 from backframes.recipes import are_recipes, is_told_object, recipe_kind, recipe_registers, recipe_value
+from backframes.registers import read_behind
 from backframes.values import blank, copied_heap, is_value, next_number
 from backframes.wanted import wanted, wanted_at_call
 
@@ -37,6 +38,7 @@ class FrameState:
         self._unmade = copied_heap(unmade)
         self._own = copied_heap(own)
         self._claims = list(claims)
+        self._registers = self._used_registers()
 
     def frames(self):
         return [(name, row, dict(recipes)) for name, row, recipes in self._frames]
@@ -52,6 +54,9 @@ class FrameState:
 
     def registers(self):
         """The sorted list of the registers that frames and unmade objects are made of."""
+        return list(self._registers)
+
+    def _used_registers(self):
         tables = [recipes for _, _, recipes in self._frames]
         tables.extend([recipes for _, recipes in self._unmade.values()])
         used = {}
@@ -59,7 +64,7 @@ class FrameState:
             for name in recipes:
                 for used_name in recipe_registers(recipes[name]):
                     used[used_name] = True
-        return sorted(list(used))
+        return tuple(sorted(list(used)))
 
     def __eq__(self, other):
         return (
@@ -170,6 +175,7 @@ class Backs:
         if sorted([state.point for state in states]) != code.points():
             raise InvalidArgument("states")
         self.code = code
+        self._coming = {}
 
     def state_at(self, point):
         if not is_integer(point) or point not in self._states:
@@ -178,6 +184,20 @@ class Backs:
 
     def states(self):
         return [self._states[point] for point in self.code.points()]
+
+    def to_come(self, point):
+        """The sorted list of the registers that are read at a point, by frame states too, or behind it.
+
+        They are looked for once, for all points, when they are asked for: what they come from never changes.
+        """
+        self.state_at(point)
+        if len(self._coming) == 0:
+            asked = {state.point: state.registers() for state in self.states()}
+            behind = read_behind(self.code.frozen_blocks(), asked)
+            for other in asked:
+                coming = {name: True for name in [*behind[other], *asked[other]]}
+                self._coming[other] = tuple(sorted(list(coming)))
+        return list(self._coming[point])
 
     def __eq__(self, other):
         return isinstance(other, Backs) and self.code == other.code and self._states == other._states

@@ -1,15 +1,15 @@
 """What registers of code come from, and where they are read."""
 
-from backframes.codeforms import end_asks, end_goals, end_uses
+from backframes.codeforms import end_asks, end_goals, end_uses, row_point
 from backframes.rowforms import row_reads, row_sets
 
 AGAIN_WORDS = ("number", "nil", "add", "sub", "times", "less", "same")
 
 
-def rows_again(code):
+def rows_again(blocks):
     """A dict with the rows of all registers that can be computed again."""
     again = {}
-    for _, rows, _ in code.frozen_blocks():
+    for _, rows, _ in blocks:
         for row in rows:
             if row[0] in AGAIN_WORDS:
                 again[row_sets(row)] = row
@@ -70,33 +70,46 @@ def used_for_itself(code):
     return names
 
 
-def read_behind(code, point):
-    """The sorted list of the registers that are read behind a point before they are made anew."""
-    blocks = code.frozen_blocks()
+def read_behind(blocks, asked):
+    """A dict from all points to the sorted tuples of the registers that are read behind them before they are made anew.
+
+    asked is a dict from points to lists of registers that are read at their rows, besides what these read.
+    """
     heads = [{} for _ in blocks]
     grown = True
     while grown:
         grown = False
-        for k in range(len(blocks)):
-            head = _read_from(blocks, k, 0, heads)
+        # Most goals lead on to later blocks, and what is read is handed back to the earlier ones.
+        for k in reversed(range(len(blocks))):
+            head = _read_from(blocks[k], 0, _read_at_end(blocks, k, heads), asked)
             if len(head) > len(heads[k]):
                 heads[k] = head
                 grown = True
-    k, r = code.place(point)
-    return sorted(list(_read_from(blocks, k, r + 1, heads)))
+    behind = {}
+    for k, block in enumerate(blocks):
+        for r, row in enumerate(block[1]):
+            if row_point(row) is not None:
+                read = _read_from(block, r + 1, _read_at_end(blocks, k, heads), asked)
+                behind[row_point(row)] = tuple(sorted(list(read)))
+    return behind
 
 
-def _read_from(blocks, k, r, heads):
-    """A dict with the registers that are read from row r of block k on, by what is read from each block on."""
-    _, rows, end = blocks[k]
+def _read_at_end(blocks, k, heads):
+    """A dict with the registers that are read from the end of block k on, by what is read from each block on."""
+    end = blocks[k][2]
     read = {name: True for name in end_uses(end)}
     for goal, _ in end_goals(end):
         params = [name for name, _ in blocks[goal][0]]
         for name in heads[goal]:
             if name not in params:
                 read[name] = True
-    for row in reversed(rows[r:]):
+    return read
+
+
+def _read_from(block, r, read, asked):
+    """The dict of what is read behind the rows of a block, turned to what is read from row r on."""
+    for row in reversed(block[1][r:]):
         read.pop(row_sets(row), None)
-        for name in row_reads(row):
+        for name in [*row_reads(row), *asked.get(row_point(row), [])]:
             read[name] = True
     return read

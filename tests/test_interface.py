@@ -45,6 +45,18 @@ INTERFACE = {
         "restated": "backs, point, registers",
         "made_for": "backs",
     },
+    "texts": {"source_text": "source", "read_source": "text"},
+    "codetexts": {"code_text": "code", "read_code": "source, text"},
+    "ways": {"ways": "code, start", "rows_on": "code, start, turns"},
+    "carried": {
+        "to_come": "backs, point",
+        "carries": "backs, point, registers",
+        "carried": "backs, point",
+        "carried_paths": "backs, point",
+        "again": "backs, start, turns",
+        "thinned": "backs",
+        "total": "backs, visits",
+    },
 }
 
 
