@@ -23,6 +23,11 @@ def opened_frame(function, arguments):
     return Frame(function, 0, variables)
 
 
+def stack_of(source, frames):
+    """The list of the frames that are told as tuples (function, row, variables)."""
+    return [Frame(source.function_at(name), row, variables) for name, row, variables in frames]
+
+
 class Interpreter:
     """A stack of frames over a world of objects."""
 

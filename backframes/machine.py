@@ -1,7 +1,7 @@
 """The machine that runs a function of a source row by row, and moments of its runs."""
 
 from backframes.errors import InvalidArgument, InvalidNumber, InvalidSource, InvalidState, LimitExceeded
-from backframes.interpreter import MOST_FRAMES, Frame, Interpreter, opened_frame
+from backframes.interpreter import MOST_FRAMES, Interpreter, opened_frame, stack_of
 from backframes.moments import are_stacked, check_heap
 from backframes.plain import is_integer_in
 from backframes.source import Source
@@ -26,14 +26,11 @@ class Machine:
         self._begin([opened_frame(function, arguments)], {})
 
     def _begin(self, stack, heap):
-        self._world = World(self._source, heap)
+        self._world = World(self._source, heap, [])
         self._interpreter = Interpreter(self._source, self._world, stack)
 
     def _begin_from(self, state):
-        stack = []
-        for name, row, variables in state.frames():
-            stack.append(Frame(self._source.function_at(name), row, variables))
-        self._begin(stack, state.heap())
+        self._begin(stack_of(self._source, state.frames()), state.heap())
 
     def step(self):
         """Do the next row; returns whether there was one."""

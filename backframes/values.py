@@ -41,16 +41,20 @@ def holds_values(thing, kinds):
     return True
 
 
-def reckoned(word, one, other):
-    """The number of an operation on two values."""
+def operated(word, one, other):
+    """The number of an operation on two values, of any size."""
     if word == "less":
         return 1 if one < other else 0
     if word == "same":
         return 1 if one == other else 0
     if word == "add":
-        number = one + other
-    else:
-        number = one - other if word == "sub" else one * other
+        return one + other
+    return one - other if word == "sub" else one * other
+
+
+def reckoned(word, one, other):
+    """The number of an operation on two values, within the limit of runs."""
+    number = operated(word, one, other)
     if abs(number) > GREATEST_RECKONED:
         raise LimitExceeded(GREATEST_RECKONED)
     return number

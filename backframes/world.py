@@ -4,13 +4,38 @@ from backframes.values import OPERATIONS, blank, copied_heap, next_number, recko
 
 
 class World:
-    """What all frames of a run share."""
+    """What all frames of a run share.
 
-    def __init__(self, source, heap):
+    What is done in a trial can be taken back: this is how a call that fails halfway changes nothing.
+    """
+
+    def __init__(self, source, heap, log):
         self._source = source
         self._heap = copied_heap(heap)
         self._next = next_number(heap)
-        self._log = []
+        self._log = list(log)
+        # What was written in a trial over what, as tuples (fields, field, value); None without a trial.
+        self._written = None
+        self._next_ahead = 0
+        self._entries_ahead = 0
+
+    def begin_trial(self):
+        self._written = []
+        self._next_ahead = self._next
+        self._entries_ahead = len(self._log)
+
+    def end_trial(self):
+        self._written = None
+
+    def take_back(self):
+        """End a trial, with everything as it was ahead of it."""
+        for fields, field, value in reversed(self._written):
+            fields[field] = value
+        for number in range(self._next_ahead, self._next):
+            del self._heap[number]
+        del self._log[self._entries_ahead:]
+        self._next = self._next_ahead
+        self._written = None
 
     def do_row(self, row, held):
         """Do a row that goes on to the next one, on a dict of variables or registers."""
@@ -45,8 +70,11 @@ class World:
 
     def _write(self, value, field, worth):
         fields = {} if value is None else self._heap[value[1]][1]
-        if field in fields:
-            fields[field] = worth
+        if field not in fields:
+            return
+        if self._written is not None:
+            self._written.append((fields, field, fields[field]))
+        fields[field] = worth
 
     def _see(self, value):
         if value is None:

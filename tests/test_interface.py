@@ -57,6 +57,40 @@ INTERFACE = {
         "thinned": "backs",
         "total": "backs, visits",
     },
+    "heaps": {
+        "value_at": "heap, roots, path",
+        "objects_met": "heap, roots",
+        "path_to": "heap, roots, number",
+        "renamed_heap": "heap, roots",
+        "matching": "heap, roots, other, others",
+        "parting_paths": "heap, roots, other, others",
+    },
+    "runs": {
+        "CodeRun": (
+            "backs, arguments, *, choice=None",
+            ["step()", "steps(many)", "ended()", "went_back()", "place()", "registers()", "heap()", "log()", "frames()"],
+        ),
+        "ridden": "backs, arguments, *, choice=None",
+        "run_from": "backs, point, registers, heap, *, choice=None",
+        "rode": "run",
+    },
+    "terms": {
+        "Terms": (
+            "",
+            [
+                "constant(n)", "nil()", "unknown(name, kind)", "made(op, one, other)", "asked(word, kind, parts)",
+                "kind(term)", "parts(term)", "atom(number)",
+            ],
+        ),
+    },
+    "entering": {
+        "findings": "backs, point",
+        "finds": "backs, point, steps",
+        "unfound": "backs, point",
+        "entering": "backs, point, state",
+        "entered_run": "backs, point, state, *, choice=None",
+        "entries": "backs, state",
+    },
 }
 
 

@@ -34,7 +34,9 @@ class TestRules(unittest.TestCase):
             met[path.stem] = []
             for node in ast.walk(ast.parse(path.read_text())):
                 self.assertNotIsInstance(node, ast.Import, path)
-                if isinstance(node, ast.ImportFrom):
+                if isinstance(node, ast.ImportFrom) and node.module == "math":
+                    self.assertEqual([(name.name, name.asname) for name in node.names], [("gcd", None)])
+                elif isinstance(node, ast.ImportFrom):
                     package, _, module = node.module.partition(".")
                     self.assertEqual((package, node.level), ("backframes", 0), path)
                     met[path.stem].append(module)
