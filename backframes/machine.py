@@ -1,14 +1,12 @@
 """The machine that runs a function of a source row by row, and moments of its runs."""
 
-from backframes.errors import InvalidArgument, InvalidNumber, InvalidSource, InvalidState, LimitExceeded
+from backframes.errors import InvalidArgument, InvalidSource, InvalidState, LimitExceeded
 from backframes.interpreter import MOST_FRAMES, Interpreter, opened_frame, stack_of
 from backframes.moments import are_stacked, check_heap
-from backframes.plain import is_integer_in
 from backframes.source import Source
+from backframes.stepping import MOST_ROWS, steps_done
 from backframes.values import are_arguments, blank, copied_heap, holds_values
 from backframes.world import World
-
-MOST_ROWS = 2000
 
 
 class Machine:
@@ -38,12 +36,7 @@ class Machine:
 
     def steps(self, many):
         """Do up to so many rows; returns how many were done."""
-        if not is_integer_in(many, 0, MOST_ROWS):
-            raise InvalidNumber(many)
-        done = 0
-        while done < many and self.step():
-            done += 1
-        return done
+        return steps_done(self, many)
 
     def ended(self):
         return self._interpreter.ending()

@@ -1,15 +1,14 @@
 """Code that runs, and goes back to the interpreter."""
 
 from backframes.codeforms import end_goals, row_point
-from backframes.errors import InvalidArgument, InvalidCode, InvalidNumber, LimitExceeded
+from backframes.errors import InvalidArgument, InvalidCode, LimitExceeded
 from backframes.frames import Backs, built
 from backframes.interpreter import Interpreter, opened_frame, stack_of
 from backframes.moments import check_heap
-from backframes.plain import is_integer, is_integer_in, is_tuple_of
+from backframes.plain import is_integer, is_tuple_of
+from backframes.stepping import MOST_ROWS, steps_done
 from backframes.values import are_arguments, blank, is_object, is_value
 from backframes.world import World
-
-MOST_ROWS = 2000
 
 
 class CodeRun:
@@ -51,12 +50,7 @@ class CodeRun:
 
     def steps(self, many):
         """Do up to so many rows; returns how many were done."""
-        if not is_integer_in(many, 0, MOST_ROWS):
-            raise InvalidNumber(many)
-        done = 0
-        while done < many and self.step():
-            done += 1
-        return done
+        return steps_done(self, many)
 
     def _do_next(self):
         k, r = self._place

@@ -6,7 +6,7 @@ from backframes.codetexts import code_text, read_code
 from backframes.errors import InvalidCode, InvalidSource, InvalidText
 from backframes.source import Source
 from tests.samples import all_code, all_source, function_source, numbers, odd_things
-from tests.test_texts import text_of
+from tests.test_texts import changed_texts, text_of
 from tests.wild import wild_backs
 
 ALL_LINES = [
@@ -185,13 +185,8 @@ class TestReadCode(CodeTextCase):
         self.wrong(text_of([*HEAD, "x"]) + "y", 2)
 
     def test_a_text_that_is_read_is_the_text_of_its_code(self):
-        chance = random.Random(290)
-        text = text_of(ALL_LINES)
-        marks = "\n  :/-019az\r"
         read = 0
-        for _ in range(4000):
-            at = chance.randrange(len(text))
-            changed = text[:at] + chance.choice(["", *marks]) + text[at + chance.randint(0, 2):]
+        for changed in changed_texts(text_of(ALL_LINES), random.Random(290)):
             try:
                 code = read_code(all_source(), changed)
             except (InvalidText, InvalidCode):

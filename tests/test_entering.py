@@ -750,6 +750,14 @@ class TestWrong(unittest.TestCase):
         same = Source([], [("f", [("x", "number")], [], "number", [("see", "x"), ("return", "x")])])
         self.assertEqual(entering(backs, 1, State(same, [("f", 0, {"x": 9})], {}))[0], "entered")
 
+    def test_code_without_points(self):
+        code = Code(example().code.source, "f", [(numbers("a"), [], ("return", "a"))])
+        backs = Backs(code, [])
+        self.assertEqual(entries(backs, State(code.source, [("f", 0, {"x": 9})], {})), [])
+        for odd in odd_things():
+            with self.assertRaises(InvalidArgument):
+                entries(backs, odd)
+
     def test_nothing_changes(self):
         backs = backs_of([], {"u": ("unmade", 0), "v": IN["o"]}, unmade={0: cell(IN["p"], IN["o"])})
         state = state_of(backs, {1: cell(4, thing(2)), 2: cell()}, u=thing(1), v=thing(2))

@@ -151,6 +151,12 @@ class TestParting(unittest.TestCase):
         self.assertEqual(parting_paths(heap, [thing(0)], heap, [thing(2)]), ("value", (0, "next")))
         self.assertEqual(parting_paths(heap, [thing(0)], heap, [thing(1)]), ("value", (0,)))
 
+    def test_unlike_classes_with_the_same_fields(self):
+        heap = {0: ("pin", {}), 1: ("cup", {}), 2: ("box", {"a": thing(0)}), 3: ("box", {"a": thing(1)}), 4: ("bag", {"a": thing(0)})}
+        for one, other, path in ((0, 1, (0,)), (2, 3, (0, "a")), (2, 4, (0,))):
+            self.assertEqual(parting_paths(heap, [thing(one)], heap, [thing(other)]), ("value", path))
+            self.assertIsNone(matching(heap, [thing(one)], heap, [thing(other)]))
+
     def test_the_least_path(self):
         heap = {0: ("box", {"a": 1, "b": 2}), 1: ("box", {"a": 1, "b": 3}), 2: ("box", {"a": 0, "b": 3})}
         self.assertEqual(parting_paths(heap, [thing(0), 5], heap, [thing(1), 6]), ("value", (1,)))

@@ -46,6 +46,13 @@ def text_of(lines):
     return "".join([line + "\n" for line in lines])
 
 
+def changed_texts(text, chance):
+    """Texts that differ from another one at one place."""
+    for _ in range(4000):
+        at = chance.randrange(len(text))
+        yield text[:at] + chance.choice(["", *"\n  :/-019az\r"]) + text[at + chance.randint(0, 2):]
+
+
 class TextCase(unittest.TestCase):
     def wrong(self, text, line):
         with self.assertRaises(InvalidText) as caught:
@@ -197,7 +204,7 @@ class TestReadSource(TextCase):
             self.wrong_row("  " + row)
 
     def test_integers(self):
-        for number in ("-0", "00", "01", "-01", "+1", "1.0", "1e3", "", "-", "--1", "1-", "0x1", "1_0", "\u0661", "\u00b2", "9" * 31, "-" + "9" * 31,
+        for number in ("-0", "1x", "x", "00", "01", "-01", "+1", "1.0", "1e3", "", "-", "--1", "1-", "0x1", "1_0", "\u0661", "\u00b2", "9" * 31, "-" + "9" * 31,
                        "0" * 30, "a", "1a", " 1", "9" * 5000):
             for row in ("  number a {}", "  if a {}", "  jump {}"):
                 self.wrong_row(row.format(number))
@@ -240,13 +247,8 @@ class TestReadSource(TextCase):
         self.no_source(text_of([F[0], "  jump -1", F[1]]), "functions", (0, 0))
 
     def test_a_text_that_is_read_is_the_text_of_its_source(self):
-        chance = random.Random(11)
-        text = text_of(ALL_LINES)
-        marks = "\n  :/-019az\r"
         read = 0
-        for _ in range(4000):
-            at = chance.randrange(len(text))
-            changed = text[:at] + chance.choice(["", *marks]) + text[at + chance.randint(0, 2):]
+        for changed in changed_texts(text_of(ALL_LINES), random.Random(11)):
             try:
                 source = read_source(changed)
             except (InvalidText, InvalidSource):
