@@ -42,6 +42,7 @@ class Code:
         self._again = rows_again(self._blocks)
         self._living = {}
         self._standing = {}
+        self._ways = {}
 
     def _take_block(self, k, block):
         if not _is_head(block) or not self._are_new(block[0]):
@@ -162,6 +163,14 @@ class Code:
         if len(self._living) == 0:
             self._living = read_behind(self._blocks, {})
         return list(self._living[point])
+
+    def noted_ways(self, start):
+        """What was noted of the ways from a point, or from the beginning for None; None if nothing was."""
+        return self._ways.get(start)
+
+    def note_ways(self, start, found):
+        """Note what was found of the ways from a start, in tuples alone: code never changes."""
+        self._ways[start] = found
 
     def again_rows(self):
         """A dict with the rows of all registers that can be computed again."""

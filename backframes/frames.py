@@ -6,7 +6,8 @@ from backframes.machine import State
 from backframes.moments import are_stacked, check_heap
 from backframes.plain import is_integer, is_integer_in, is_list_of, is_tuple_of
 from backframes.recipes import are_recipes, is_told_object, recipe_kind, recipe_registers, recipe_value
-from backframes.registers import read_behind
+from backframes.registers import read_behind, with_origins
+from backframes.rowforms import row_reads
 from backframes.values import blank, copied_heap, is_value, next_number
 from backframes.wanted import wanted, wanted_at_call
 
@@ -65,6 +66,16 @@ class FrameState:
                 for used_name in recipe_registers(recipes[name]):
                     used[used_name] = True
         return tuple(sorted(list(used)))
+
+    def all_registers(self):
+        """The list of the registers in all parts, own ones only if they stand in a recipe."""
+        names = list(self._registers)
+        recipes = [recipe for _, recipe in self._claims]
+        for _, told in self._own.values():
+            recipes.extend(list(told.values()))
+        for recipe in recipes:
+            names.extend(recipe_registers(recipe))
+        return names
 
     def __eq__(self, other):
         return (
@@ -176,6 +187,8 @@ class Backs:
             raise InvalidArgument("states")
         self.code = code
         self._coming = {}
+        self._later = {}
+        self._answers = {}
 
     def state_at(self, point):
         if not is_integer(point) or point not in self._states:
@@ -198,6 +211,32 @@ class Backs:
                 coming = {name: True for name in [*behind[other], *asked[other]]}
                 self._coming[other] = tuple(sorted(list(coming)))
         return list(self._coming[point])
+
+    def read_later(self, point):
+        """The list of the registers that stand at a point or are read behind it, by all parts of frame states too,
+        and of those from which they are computed again; all are looked for once."""
+        if len(self._later) == 0:
+            self._look_later()
+        return list(self._later[point])
+
+    def _look_later(self):
+        rows = self.code.again_rows()
+        come = {name: row_reads(rows[name]) if name in rows else [] for name in self.code.kinds()}
+        asked = {state.point: state.all_registers() for state in self.states()}
+        known = {state.point: [*asked[state.point], *list(state.own())] for state in self.states()}
+        behind = read_behind(self.code.frozen_blocks(), known)
+        for point in asked:
+            k, r = self.code.place(point)
+            read = row_reads(self.code.frozen_blocks()[k][1][r])
+            self._later[point] = tuple(with_origins([*read, *asked[point], *behind[point]], come))
+
+    def answer(self, question):
+        """What was noted as the answer to a question, or None."""
+        return self._answers.get(question)
+
+    def note_answer(self, question, told):
+        """Note an answer that never changes, as neither code nor frame states do."""
+        self._answers[question] = told
 
     def __eq__(self, other):
         return isinstance(other, Backs) and self.code == other.code and self._states == other._states

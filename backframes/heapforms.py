@@ -9,10 +9,18 @@ MOST_OBJECTS = 2000
 
 def check_heap_and_roots(heap, roots, heap_name, roots_name):
     """Raise which of the two is not as it must be; the names are those of the parameters."""
+    check_heap(heap, heap_name)
+    check_roots(roots, heap, roots_name)
+
+
+def check_heap(heap, name):
     if not is_heap(heap):
-        raise InvalidState(heap_name)
+        raise InvalidState(name)
+
+
+def check_roots(roots, heap, name):
     if not isinstance(roots, list) or not all([is_value_in(value, heap) for value in roots]):
-        raise InvalidState(roots_name)
+        raise InvalidState(name)
 
 
 def is_heap(thing):

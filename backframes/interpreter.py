@@ -85,3 +85,13 @@ class Interpreter:
 
     def told_frames(self):
         return [(frame.function.name, frame.row, dict(frame.variables)) for frame in self._stack]
+
+    def set_variable(self, at, name, value):
+        self._stack[at].variables[name] = value
+
+    def twin_in(self, world):
+        """An interpreter that stands alike in a twin of its world, and goes on by itself."""
+        other = Interpreter(self._source, world, stack_of(self._source, self.told_frames()))
+        other._done = self._done
+        other._ending = self._ending
+        return other

@@ -97,7 +97,7 @@ class CodeRun:
     def _come_to(self, row):
         """Go back at a point, or pass it."""
         point = row_point(row)
-        visit = self._visits.get(point, 0)
+        visit = self.visit()
         refused = row[0] == "guard" and self._registers[row[1]] == 0
         if refused or self._choice == (point, visit):
             self._go_back(point, visit)
@@ -105,8 +105,29 @@ class CodeRun:
         self._visits[point] = visit + 1
         self._place = (self._place[0], self._place[1] + 1)
 
+    def point(self):
+        """The point of the guard or look that is next; None anywhere else."""
+        if self.place() is None:
+            return None
+        k, r = self._place
+        rows = self._blocks[k][1]
+        return row_point(rows[r]) if r < len(rows) else None
+
+    def visit(self):
+        """The number of the visit to come of the point that is next."""
+        return self._visits.get(self.point(), 0)
+
+    def state_at_point(self):
+        """The state of the interpreter that going back at the point that is next would build."""
+        return built(self.backs.state_at(self.point()), self._registers, self._world.told_heap())
+
+    def go_back(self):
+        """Go back at the point that is next, as if it were chosen."""
+        self._go_back(self.point(), self.visit())
+        self._done += 1
+
     def _go_back(self, point, visit):
-        state = built(self.backs.state_at(point), self._registers, self._world.told_heap())
+        state = self.state_at_point()
         self._world = World(self._source, state.heap(), self._world.told_log())
         self._interpreter = Interpreter(self._source, self._world, stack_of(self._source, state.frames()))
         self._back = (point, visit)
@@ -132,6 +153,24 @@ class CodeRun:
 
     def frames(self):
         return [] if self._interpreter is None else self._interpreter.told_frames()
+
+    def set_variable(self, at, name, value):
+        """Set a variable of a frame of the interpreter behind a way back."""
+        self._interpreter.set_variable(at, name, value)
+
+    def twin(self):
+        """A run that stands alike, and goes on by itself."""
+        blanks = [blank(kind) for _, kind in self._blocks[0][0]]
+        other = CodeRun(self.backs, blanks, choice=self._choice)
+        other._begin(dict(self._registers), {}, self._place)
+        other._world = self._world.twin()
+        other._visits = dict(self._visits)
+        other._done = self._done
+        other._ending = self._ending
+        other._back = self._back
+        if self._interpreter is not None:
+            other._interpreter = self._interpreter.twin_in(other._world)
+        return other
 
     def has_rows_left(self):
         """Whether one more row of the code, or of the interpreter behind a way back, is within the limit."""

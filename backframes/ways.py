@@ -20,7 +20,7 @@ def rows_on(code, start, turns):
     if isinstance(turns, tuple) and all([is_integer(turn) for turn in turns]):
         for taken, _, rows in found:
             if taken == turns:
-                return rows
+                return list(rows)
     raise InvalidArgument("turns")
 
 
@@ -28,10 +28,14 @@ def _ways_with_rows(code, start):
     """The list of all ways from a start in their order, tuples of their turns, their last point and their rows."""
     if not isinstance(code, Code):
         raise InvalidCode("code", None)
-    found = _walked(code.frozen_blocks(), _place_behind(code, start))
-    if max([len(rows) for _, _, rows in found]) > MOST_ROWS:
-        raise LimitExceeded(MOST_ROWS)
-    return sorted(found, key=_rank)
+    place = _place_behind(code, start)
+    if code.noted_ways(start) is None:
+        found = _walked(code.frozen_blocks(), place)
+        if max([len(rows) for _, _, rows in found]) > MOST_ROWS:
+            raise LimitExceeded(MOST_ROWS)
+        ordered = sorted(found, key=_rank)
+        code.note_ways(start, tuple([(turns, point, tuple(rows)) for turns, point, rows in ordered]))
+    return code.noted_ways(start)
 
 
 def _rank(way):

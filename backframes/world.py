@@ -89,3 +89,7 @@ class World:
 
     def told_log(self):
         return list(self._log)
+
+    def twin(self):
+        """A world that is alike and goes on by itself."""
+        return World(self._source, self._heap, self._log)

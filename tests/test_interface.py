@@ -91,6 +91,54 @@ INTERFACE = {
         "entered_run": "backs, point, state, *, choice=None",
         "entries": "backs, state",
     },
+    "facts": {
+        "Facts": ("terms", ["assume(term, is_zero)", "known(term)", "zero(term)", "ends(term)", "like(one, other)", "twin()"]),
+    },
+    "termheaps": {
+        "TermHeap": (
+            "terms, facts, source, name",
+            [
+                "new_object(title, fields)", "now(term)", "called(function, values)", "get(term, field)", "same(one, other)",
+                "status(term)", "like(one, other)", "content(term)", "put(term, field, value)", "see(term)", "leave(values)",
+                "events()", "twin()",
+            ],
+        ),
+    },
+    "judging": {"verdict": "backs, start, turns", "judge": "backs"},
+    "repair": {
+        "comes": "backs, point",
+        "least_recipe": "backs, point, frame, variable",
+        "mended": "backs",
+        "known_range": "backs, point, recipe",
+    },
+    "papers": {
+        "compared": "backs, arguments, *, choice=None",
+        "landing": "backs, arguments, *, choice=None",
+        "is_paper": "backs, thing",
+        "least_paper": "backs, most",
+        "point_papers": "backs, most",
+    },
+    "looking": {
+        "told_frames": "run",
+        "told_heap": "run",
+        "left_out": "backs, point",
+        "set_variable": "run, at, variable, value",
+        "stops_at": "backs, name, row",
+        "first_stop": "backs, arguments, name, row",
+        "Watch": (
+            "backs, arguments",
+            ["do(command)", "here()", "undo()", "commands()", "frames()", "log()", "heap()", "text()"],
+        ),
+    },
+    "unmade": {
+        "private_objects": "heap, roots, outside",
+        "all_made": "heap, roots, unmade",
+        "taken_apart": "heap, roots, outside",
+        "must_make": "heap, unmade, values",
+        "made_out": "heap, roots, unmade, values",
+        "making_groups": "heap, unmade",
+    },
+    "twins": {"look_alikes": "heap", "told_apart": "heap, one, other", "folded_heap": "heap, roots"},
 }
 
 

@@ -1,0 +1,63 @@
+"""Ways that lead to a point, and the interpreter at its first visit there."""
+
+from backframes.following import Follower
+from backframes.goneways import gone_way
+from backframes.holding import Holding
+from backframes.judging import all_ways
+
+
+class Arrival:
+    """A way to a point that is not impossible, with the interpreter where it first comes to the point."""
+
+    def __init__(self, backs, start, turns, way, state):
+        self.start = start
+        self.turns = turns
+        self.way = way
+        self._holding = Holding(backs, state, way)
+        self._follower = Follower(backs, start, way)
+        self.rows = self._rows_to(start != state.point)
+        # The terms of the recipes that were asked for.
+        self._told = {}
+
+    def _rows_to(self, beginning_counts):
+        """How many rows of the interpreter come first to a visit; None if it does not come there."""
+        follower = self._follower
+        while follower.rows == 0 and not beginning_counts or not follower.stands_at(self._holding.places):
+            if follower.is_at_end() or follower.step() is not None:
+                return None
+        return follower.rows
+
+    def value_at(self, at, variable):
+        """The term of a variable at the visit."""
+        return self.way.facts.known(self._follower.value_of(at, variable))
+
+    def told(self, recipe):
+        """The term of a recipe at the end of the way."""
+        if recipe not in self._told:
+            self._told[recipe] = self.way.facts.known(self._holding.value_of(recipe))
+        return self._told[recipe]
+
+    def tells(self, at, variable, recipe):
+        """Whether a variable has the value of a recipe at the visit."""
+        return self._holding.are_held(self._follower, [(self.value_at(at, variable), self.told(recipe))])
+
+
+def arrivals_at(backs, point):
+    """The list of the arrivals at a point, in the order of the judge."""
+    state = backs.state_at(point)
+    found = all_ways(backs)
+    # Several questions in a row are often about one point; to keep all of its arrivals for each would take much room.
+    told = backs.answer("arrivals")
+    if told is None or told[0] != point:
+        told = (point, tuple(_found_arrivals(backs, state, found)))
+        backs.note_answer("arrivals", told)
+    return list(told[1])
+
+
+def _found_arrivals(backs, state, found):
+    arrivals = []
+    for start, turns, goal in found:
+        way = gone_way(backs, start, turns) if goal == state.point else None
+        if way is not None:
+            arrivals.append(Arrival(backs, start, turns, way, state))
+    return arrivals
