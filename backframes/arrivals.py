@@ -1,5 +1,6 @@
 """Ways that lead to a point, and the interpreter at its first visit there."""
 
+from backframes.fingerprints import Fingerprints
 from backframes.following import Follower
 from backframes.goneways import gone_way
 from backframes.holding import Holding
@@ -16,8 +17,11 @@ class Arrival:
         self._holding = Holding(backs, state, way)
         self._follower = Follower(backs, start, way)
         self.rows = self._rows_to(start != state.point)
-        # The terms of the recipes that were asked for.
+        # What was asked for: the terms of variables and of recipes, and the fingerprints of both.
+        self._values = {}
         self._told = {}
+        self._prints = {}
+        self._fingerprints = Fingerprints(way.terms)
 
     def _rows_to(self, beginning_counts):
         """How many rows of the interpreter come first to a visit; None if it does not come there."""
@@ -29,7 +33,9 @@ class Arrival:
 
     def value_at(self, at, variable):
         """The term of a variable at the visit."""
-        return self.way.facts.known(self._follower.value_of(at, variable))
+        if (at, variable) not in self._values:
+            self._values[(at, variable)] = self.way.facts.known(self._follower.value_of(at, variable))
+        return self._values[(at, variable)]
 
     def told(self, recipe):
         """The term of a recipe at the end of the way."""
@@ -41,12 +47,29 @@ class Arrival:
         """Whether a variable has the value of a recipe at the visit."""
         return self._holding.are_held(self._follower, [(self.value_at(at, variable), self.told(recipe))])
 
+    def may_tell(self, at, variable, recipe):
+        """Whether a variable of a number may have the value of an operation on two registers, as is soon seen."""
+        if not self.way.facts.keeps_products():
+            return True
+        value = self.value_at(at, variable)
+        if recipe[0] in ("less", "same"):
+            least, greatest = self.way.facts.ends(value)
+            return least is not None and greatest is not None and 0 <= least and greatest <= 1
+        told = [self._print_of(part, self.told(part)) for part in recipe[1:]]
+        return self._fingerprints.of_operation(recipe[0], told[0], told[1]) == self._print_of((at, variable), value)
+
+    def _print_of(self, name, term):
+        """The fingerprint of a term, noted under a name."""
+        if name not in self._prints:
+            self._prints[name] = self._fingerprints.of_term(term)
+        return self._prints[name]
+
 
 def arrivals_at(backs, point):
     """The list of the arrivals at a point, in the order of the judge."""
     state = backs.state_at(point)
     found = all_ways(backs)
-    # Several questions in a row are often about one point; to keep all of its arrivals for each would take much room.
+    # Several questions in a row are often about one point; the arrivals at all points would take much room.
     told = backs.answer("arrivals")
     if told is None or told[0] != point:
         told = (point, tuple(_found_arrivals(backs, state, found)))

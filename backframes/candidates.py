@@ -22,7 +22,8 @@ def first_telling(state, arrivals, at, variable):
     found = _first_of(plain, arrivals, at, variable)
     for word in PAIR_WORDS:
         if found is None:
-            found = _first_of(_pairs(word, registers), arrivals, at, variable)
+            pairs = [recipe for recipe in _pairs(word, registers) if arrivals[0].may_tell(at, variable, recipe)]
+            found = _first_of(pairs, arrivals, at, variable)
     if found is None:
         found = _first_of(_shifted(registers["number"], arrivals[0], at, variable), arrivals, at, variable)
     return found

@@ -1,8 +1,8 @@
 """What must be carried from point to point, if code itself may compute registers again, too."""
 
 from backframes.codeforms import end_uses, row_point
-from backframes.errors import InvalidArgument, InvalidCode
-from backframes.frames import Backs
+from backframes.errors import InvalidArgument
+from backframes.frames import Backs, check_backs
 from backframes.plain import is_integer, is_integer_in
 from backframes.registers import with_origins
 from backframes.restating import restated_over
@@ -15,18 +15,13 @@ MOST_VISITS = 10 ** 9
 
 def to_come(backs, point):
     """The sorted list of the registers that are read at a point or behind it before they are made anew."""
-    _check_backs(backs)
+    check_backs(backs)
     return backs.to_come(point)
-
-
-def _check_backs(backs):
-    if not isinstance(backs, Backs):
-        raise InvalidCode("backs", None)
 
 
 def _wants_at(backs, point):
     """What is to come at a point, where no register is there anyhow."""
-    _check_backs(backs)
+    check_backs(backs)
     coming = backs.to_come(point)
     return Wants(backs.code.usable(point), backs.code.again_rows(), [], coming)
 
@@ -51,7 +46,7 @@ def carried_paths(backs, point):
 
 def again(backs, start, turns):
     """The sorted list of the registers that must be computed again on a way."""
-    _check_backs(backs)
+    check_backs(backs)
     passed = rows_on(backs.code, start, turns)
     there = {name: True for name in _carried_to(backs, start)}
     made = {}
@@ -97,7 +92,7 @@ def _used_ahead(blocks, passed, made):
 
 def thinned(backs):
     """The same code with frame states that are made of the carried registers alone."""
-    _check_backs(backs)
+    check_backs(backs)
     rows = backs.code.again_rows()
     thin = []
     for state in backs.states():
@@ -108,7 +103,7 @@ def thinned(backs):
 
 def total(backs, visits):
     """How many registers are carried at all visits of points together."""
-    _check_backs(backs)
+    check_backs(backs)
     if not _are_visits(visits, backs.code.points()):
         raise InvalidArgument("visits")
     return sum([len(carried(backs, point)) * visits[point] for point in visits])

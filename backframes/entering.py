@@ -1,8 +1,8 @@
 """Entering code in the middle, from a state of the interpreter."""
 
 from backframes.equations import Equations, found_by, is_known, missing_value, told_value
-from backframes.errors import InvalidArgument, InvalidCode
-from backframes.frames import Backs
+from backframes.errors import InvalidArgument
+from backframes.frames import check_backs
 from backframes.heapforms import steps_to
 from backframes.machine import State
 from backframes.plain import is_integer, is_tuple_of
@@ -34,8 +34,7 @@ def finds(backs, point, steps):
 
 
 def _state_at(backs, point):
-    if not isinstance(backs, Backs):
-        raise InvalidCode("backs", None)
+    check_backs(backs)
     return backs.state_at(point)
 
 
@@ -208,7 +207,6 @@ def entered_run(backs, point, state, *, choice=None):
 
 def entries(backs, state):
     """The list of the points with the words that tell whether code can be entered there."""
-    if not isinstance(backs, Backs):
-        raise InvalidCode("backs", None)
+    check_backs(backs)
     _check_state(backs, state)
     return [(point, entering(backs, point, state)[0]) for point in backs.code.points()]

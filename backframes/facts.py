@@ -62,6 +62,10 @@ class Facts:
         """The list of the terms of several parts that are known to be 0."""
         return self._knowledge.zeros()
 
+    def keeps_products(self):
+        """Whether sums and products of what is known are known just as they are made."""
+        return len(self.zeros()) == 0 and not self._knowledge.gives_products()
+
     def restricted(self, barred):
         """Facts that know this of the sums alone in which no atom of certain words stands."""
         other = Facts(self.terms)

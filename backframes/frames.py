@@ -235,7 +235,7 @@ class Backs:
         return self._answers.get(question)
 
     def note_answer(self, question, told):
-        """Note an answer that never changes, as neither code nor frame states do."""
+        """Note the answer to a question; it never changes, as neither code nor frame states do."""
         self._answers[question] = told
 
     def __eq__(self, other):
@@ -244,3 +244,9 @@ class Backs:
 
 def _is_of(state, code):
     return isinstance(state, FrameState) and state.code == code
+
+
+def check_backs(thing):
+    """Raise whether a thing is no code with frame states."""
+    if not isinstance(thing, Backs):
+        raise InvalidCode("backs", None)

@@ -10,7 +10,7 @@ from backframes.ways import rows_on
 
 MOST_TIMES = 10
 # Results of calls, and objects that got out, may have other names when a way is gone again.
-BARRED = {"call": True, "out": True}
+BARRED = ("call", "out")
 
 
 class GoneWay:

@@ -74,3 +74,20 @@ def steps_to(heap, roots):
                 steps[value[1]] = (number, field)
                 waiting.append(value[1])
     return steps
+
+
+def path_over(steps, last):
+    """The path that ends with the step to the last one."""
+    path = []
+    while last is not None:
+        last, step = steps[last]
+        path.append(step)
+    return tuple(path[::-1])
+
+
+def are_like(heap, one, other_heap, other):
+    """Whether values of two heaps are alike by themselves, whatever their fields hold."""
+    if not is_object(one) or not is_object(other):
+        return one == other
+    title, fields = heap[one[1]]
+    return title == other_heap[other[1]][0] and have_same_names(fields, other_heap[other[1]][1])

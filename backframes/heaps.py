@@ -1,7 +1,7 @@
 """Heaps of objects: paths from roots, and how two heaps differ."""
 
 from backframes.errors import InvalidArgument, InvalidNumber
-from backframes.heapforms import check_heap_and_roots, have_same_names, steps_to
+from backframes.heapforms import are_like, check_heap_and_roots, path_over, steps_to
 from backframes.plain import is_integer, is_integer_in
 from backframes.values import is_object
 
@@ -32,16 +32,7 @@ def path_to(heap, roots, number):
     if not is_integer(number) or number not in heap:
         raise InvalidNumber(number)
     steps = steps_to(heap, roots)
-    return _path_over(steps, number) if number in steps else None
-
-
-def _path_over(steps, last):
-    """The path that ends with the step to the last one."""
-    path = []
-    while last is not None:
-        last, step = steps[last]
-        path.append(step)
-    return tuple(path[::-1])
+    return path_over(steps, number) if number in steps else None
 
 
 def renamed_heap(heap, roots):
@@ -117,7 +108,7 @@ class Parting:
 
     def _compare(self, one, other, step):
         """The paper that the values behind a step give, or None."""
-        if not self._are_like(one, other):
+        if not are_like(self._heap, one, self._other, other):
             return ("value", self._path_with(step))
         if not is_object(one):
             return None
@@ -128,14 +119,7 @@ class Parting:
         if places[0] == places[1]:
             return None
         first = min([place for place in places if place is not None])
-        return ("sharing", _path_over(self._steps, first), self._path_with(step))
-
-    def _are_like(self, one, other):
-        """Whether two values are alike by themselves, whatever their fields hold."""
-        if not is_object(one) or not is_object(other):
-            return one == other
-        title, fields = self._heap[one[1]]
-        return title == self._other[other[1]][0] and have_same_names(fields, self._other[other[1]][1])
+        return ("sharing", path_over(self._steps, first), self._path_with(step))
 
     def _note(self, one, other, step):
         place = len(self._pairs)
@@ -147,4 +131,4 @@ class Parting:
     def _path_with(self, step):
         """The path that ends with a step."""
         ahead, last = step
-        return (last,) if ahead is None else (*_path_over(self._steps, ahead), last)
+        return (last,) if ahead is None else (*path_over(self._steps, ahead), last)

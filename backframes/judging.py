@@ -1,8 +1,7 @@
 """The judge: whether the interpreter comes from the frame state where a way begins to that where it ends."""
 
-from backframes.errors import InvalidCode
 from backframes.following import Follower
-from backframes.frames import Backs
+from backframes.frames import check_backs
 from backframes.goneways import gone_way
 from backframes.holding import Holding
 from backframes.ways import rows_on, ways
@@ -14,11 +13,6 @@ def verdict(backs, start, turns):
     rows_on(backs.code, start, turns)
     points = [point for taken, point in ways(backs.code, start) if taken == turns]
     return _verdict_on(backs, start, turns, points[0])
-
-
-def check_backs(backs):
-    if not isinstance(backs, Backs):
-        raise InvalidCode("backs", None)
 
 
 def _verdict_on(backs, start, turns, point):

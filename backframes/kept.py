@@ -2,7 +2,7 @@
 
 from backframes.code import Code
 from backframes.errors import InvalidArgument, InvalidCode
-from backframes.frames import Backs
+from backframes.frames import check_backs
 from backframes.plain import is_integer_in
 from backframes.registers import origins, used_for_itself, with_origins
 from backframes.restating import restated_over
@@ -13,8 +13,7 @@ GREATEST_WEIGHT = 1000
 
 def _wants_at(backs, point):
     """What the frame state of a point wants besides what is live there."""
-    if not isinstance(backs, Backs):
-        raise InvalidCode("backs", None)
+    check_backs(backs)
     state = backs.state_at(point)
     living = backs.code.living(point)
     wishes = [name for name in state.registers() if name not in living]
@@ -95,8 +94,7 @@ def restated(backs, point, registers):
 
 def made_for(backs):
     """A dict that tells of all registers whether code needs them, or points do, or nothing."""
-    if not isinstance(backs, Backs):
-        raise InvalidCode("backs", None)
+    check_backs(backs)
     come = origins(backs.code)
     for_code = with_origins(used_for_itself(backs.code), come)
     asked = [name for state in backs.states() for name in state.registers()]

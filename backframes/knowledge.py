@@ -5,7 +5,7 @@ values that the sum does not have, all of them between the ends.
 """
 
 from backframes.rewriting import Rewriter
-from backframes.termforms import NumberTerm, ObjectTerm, added, is_term, only_atom, primitive_of
+from backframes.termforms import NumberTerm, ObjectTerm, atoms_in, atoms_within, only_atom, primitive_of
 
 ANYTHING = (None, None, ())
 EITHER = (0, 1, ())
@@ -46,37 +46,25 @@ class Knowledge:
     def without(self, barred):
         """What is known of the sums in which no atom of certain words stands, also within atoms.
 
-        barred is a dict of the words of atoms; for one that is asked, it is the word that was asked.
+        barred is a tuple of the words of atoms; for one that is asked, it is the word that was asked.
         """
-        met = {}
-        other = self._copied()
-        for pieces in self._ranges:
-            if self._holds_barred(NumberTerm(0, pieces), barred, met):
-                del other._ranges[pieces]
-        for atom in self._given:
-            if self._atom_is_barred(atom, barred, met):
-                del other._given[atom]
-        for atom in self._nils:
-            if self._atom_is_barred(atom, barred, met):
-                del other._nils[atom]
+        held = self._atoms_that_hold(barred)
+        other = Knowledge(self._terms)
+        kept = [pieces for pieces in self._ranges if not any([held[atom] for atom in atoms_in(NumberTerm(0, pieces))])]
+        other._ranges = {pieces: self._ranges[pieces] for pieces in kept}
+        other._given = {atom: self._given[atom] for atom in self._given if not held[atom]}
+        other._nils = {atom: True for atom in self._nils if not held[atom]}
         return other
 
-    def _atom_is_barred(self, atom, barred, met):
-        told = self._terms.atom(atom)
-        if atom not in met:
+    def _atoms_that_hold(self, barred):
+        """The list of whether each atom is one of the barred words, or such a one stands within it."""
+        held = []
+        # What stands within an atom came up ahead of it.
+        for atom in range(self._terms.many_atoms()):
+            told = self._terms.atom(atom)
             word = told[2] if told[0] == "asked" else told[0]
-            met[atom] = word in barred
-            if not met[atom]:
-                met[atom] = any([self._holds_barred(part, barred, met) for part in told if is_term(part)])
-        return met[atom]
-
-    def _holds_barred(self, term, barred, met):
-        if isinstance(term, ObjectTerm):
-            return term.number is not None and self._atom_is_barred(term.number, barred, met)
-        for _, atoms in term.pieces:
-            if any([self._atom_is_barred(atom, barred, met) for atom, _ in atoms]):
-                return True
-        return False
+            held.append(word in barred or any([held[inner] for inner in atoms_within(told)]))
+        return held
 
     def tells_as(self, other):
         """Whether just the same is known elsewhere."""
@@ -104,6 +92,10 @@ class Knowledge:
             if least is not None and least == greatest:
                 found.append(NumberTerm(-least, pieces))
         return found
+
+    def gives_products(self):
+        """Whether a product that is an atom has just one value."""
+        return any([self._terms.atom(atom)[0] == "times" for atom in self._given])
 
     def fixed(self, atom):
         """The integer or nil that stands in the place of an atom, or None."""

@@ -1,7 +1,7 @@
 """Looking at code that runs: what can be told of the interpreter without going back, and sessions with a run."""
 
-from backframes.errors import InvalidArgument, InvalidCode, InvalidNumber, LimitExceeded
-from backframes.frames import Backs
+from backframes.errors import InvalidArgument, InvalidNumber, LimitExceeded
+from backframes.frames import check_backs
 from backframes.plain import is_integer_in, is_word_tuple
 from backframes.runs import CodeRun
 from backframes.stepping import MOST_ROWS
@@ -37,14 +37,9 @@ def _check_run(run):
         raise InvalidArgument("run")
 
 
-def _check_backs(backs):
-    if not isinstance(backs, Backs):
-        raise InvalidCode("backs", None)
-
-
 def left_out(backs, point):
     """The list of the variables that cannot be told at a point, with the numbers of their frames."""
-    _check_backs(backs)
+    check_backs(backs)
     left = []
     for at, (name, _, recipes) in enumerate(backs.state_at(point).frames()):
         variables = sorted(list(backs.code.source.function_at(name).variables))
@@ -75,7 +70,7 @@ def set_variable(run, at, variable, value):
 
 def stops_at(backs, name, row):
     """The ascending list of the points that stand at a row of a function."""
-    _check_backs(backs)
+    check_backs(backs)
     _check_row(backs, name, row)
     return [state.point for state in backs.states() if state.frames()[-1][:2] == (name, row)]
 

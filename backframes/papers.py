@@ -1,7 +1,7 @@
 """Papers of difference: arguments for which source and code do not tell the same."""
 
-from backframes.errors import CodeError, InvalidCode, InvalidNumber, LimitExceeded
-from backframes.frames import Backs
+from backframes.errors import CodeError, InvalidNumber, LimitExceeded
+from backframes.frames import check_backs
 from backframes.heapforms import MOST_OBJECTS
 from backframes.heaps import parting_paths
 from backframes.machine import Machine, finished
@@ -85,18 +85,13 @@ def _wanted_values(source, frames):
 
 def is_paper(backs, thing):
     """Whether a thing is a tuple of arguments and a choice for which source and code do not tell the same."""
-    _check_backs(backs)
+    check_backs(backs)
     if not is_tuple_of(thing, 2):
         return False
     try:
         return compared(backs, thing[0], choice=thing[1]) is not None
     except CodeError:
         return False
-
-
-def _check_backs(backs):
-    if not isinstance(backs, Backs):
-        raise InvalidCode("backs", None)
 
 
 def least_paper(backs, most):
@@ -110,22 +105,18 @@ def least_paper(backs, most):
 
 def point_papers(backs, most):
     """The list of the points with the first paper of a box whose choice has each, or None."""
-    papers = {point: None for point in _checked_points(backs)}
-    for arguments in _box(backs, most):
+    lists = _box(backs, most)
+    papers = {point: None for point in backs.code.points()}
+    for arguments in lists:
         for choice in _choices_of_papers(backs, arguments):
             if choice is not None and papers[choice[0]] is None:
                 papers[choice[0]] = (list(arguments), choice)
     return [(point, papers[point]) for point in papers]
 
 
-def _checked_points(backs):
-    _check_backs(backs)
-    return backs.code.points()
-
-
 def _box(backs, most):
     """The list of all lists of arguments of a box, in its order."""
-    _check_backs(backs)
+    check_backs(backs)
     if not is_integer_in(most, 0, GREATEST_SIZE):
         raise InvalidNumber(most)
     kinds = [kind for _, kind in backs.code.source.function_at(backs.code.owner()).params]

@@ -2,8 +2,8 @@
 
 from backframes.arrivals import arrivals_at
 from backframes.candidates import first_telling
-from backframes.errors import InvalidArgument, InvalidCode
-from backframes.frames import Backs, FrameState
+from backframes.errors import InvalidArgument
+from backframes.frames import Backs, FrameState, check_backs
 from backframes.judging import judge
 from backframes.plain import is_integer_in
 from backframes.recipes import recipe_kind
@@ -11,20 +11,15 @@ from backframes.recipes import recipe_kind
 MOST_TIMES = 12
 
 
-def _check_backs(backs):
-    if not isinstance(backs, Backs):
-        raise InvalidCode("backs", None)
-
-
 def comes(backs, point):
     """The list of the ways that lead to a point, with the rows of the interpreter to its first visit there."""
-    _check_backs(backs)
+    check_backs(backs)
     return [(arrival.start, arrival.turns, arrival.rows) for arrival in arrivals_at(backs, point)]
 
 
 def least_recipe(backs, point, frame, variable):
     """The first recipe that tells a variable on all ways to a point, or None."""
-    _check_backs(backs)
+    check_backs(backs)
     frames = backs.state_at(point).frames()
     if not is_integer_in(frame, 0, len(frames) - 1):
         raise InvalidArgument("frame")
@@ -39,7 +34,7 @@ def least_recipe(backs, point, frame, variable):
 
 def mended(backs):
     """The same code with frame states that the judge calls right, or None."""
-    _check_backs(backs)
+    check_backs(backs)
     times = 0
     while judge(backs) != ("right",):
         states = [_mended_state(backs, state) for state in backs.states()]
@@ -66,7 +61,7 @@ def _mended_state(backs, state):
 
 def known_range(backs, point, recipe):
     """The least and the greatest value that a recipe is known to have on all ways to a point; None without one."""
-    _check_backs(backs)
+    check_backs(backs)
     state = backs.state_at(point)
     made = backs.code.kinds()
     kinds = {name: made[name] for name in backs.code.usable(point)}

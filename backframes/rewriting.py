@@ -1,6 +1,6 @@
 """Terms that are made anew, with other terms in the place of some atoms, also within atoms."""
 
-from backframes.termforms import NumberTerm, ObjectTerm, added, atoms_in, is_term, number_atom
+from backframes.termforms import NumberTerm, ObjectTerm, added, atoms_in, atoms_within, is_term, number_atom
 
 
 class Rewriter:
@@ -28,7 +28,7 @@ class Rewriter:
     def renewed_within(self, atom):
         """The term of an atom with all that is put into its parts, though not in its own place."""
         told = self._terms.atom(atom)
-        self._find(_atoms_within(told))
+        self._find(atoms_within(told))
         rebuilt = self._rebuilt(atom, told)
         return rebuilt if rebuilt == self._own(atom) else self.renewed(rebuilt)
 
@@ -49,7 +49,7 @@ class Rewriter:
             self._found[atom] = fixed
             return []
         told = self._terms.atom(atom)
-        within = _atoms_within(told)
+        within = atoms_within(told)
         lacking = self._lacking(within)
         if len(lacking) > 0:
             return lacking
@@ -113,8 +113,3 @@ class Rewriter:
             for _ in range(power):
                 product = value if product is None else self._terms.made("times", product, value)
         return product
-
-
-def _atoms_within(told):
-    """The list of the atoms in the parts of an atom."""
-    return [atom for part in told if is_term(part) for atom in atoms_in(part)]

@@ -1,8 +1,8 @@
 """Code that runs, and goes back to the interpreter."""
 
 from backframes.codeforms import end_goals, row_point
-from backframes.errors import InvalidArgument, InvalidCode, LimitExceeded
-from backframes.frames import Backs, built
+from backframes.errors import InvalidArgument, LimitExceeded
+from backframes.frames import built, check_backs
 from backframes.interpreter import Interpreter, opened_frame, stack_of
 from backframes.moments import check_heap
 from backframes.plain import is_integer, is_tuple_of
@@ -15,8 +15,7 @@ class CodeRun:
     """A run of code: its registers and objects, and behind a way back the interpreter."""
 
     def __init__(self, backs, arguments, *, choice=None):
-        if not isinstance(backs, Backs):
-            raise InvalidCode("backs", None)
+        check_backs(backs)
         params = backs.code.frozen_blocks()[0][0]
         if not are_arguments(arguments, [kind for _, kind in params]):
             raise InvalidArgument("arguments")
@@ -209,8 +208,7 @@ def rode(run):
 
 def run_from(backs, point, registers, heap, *, choice=None):
     """A run that goes on behind a point."""
-    if not isinstance(backs, Backs):
-        raise InvalidCode("backs", None)
+    check_backs(backs)
     k, r = backs.code.place(point)
     kinds = backs.code.kinds()
     if not _are_registers(registers, kinds):

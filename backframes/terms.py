@@ -110,3 +110,7 @@ class Terms:
         if not is_integer(number) or not 0 <= number < len(self._atoms):
             raise InvalidNumber(number)
         return self._atoms[number]
+
+    def many_atoms(self):
+        """How many atoms have come up."""
+        return len(self._atoms)

@@ -1,7 +1,7 @@
 """Objects that look alike: only the question whether they are the same one can tell them."""
 
 from backframes.errors import InvalidArgument, LimitExceeded
-from backframes.heapforms import check_heap, check_heap_and_roots, have_same_names, is_value_in
+from backframes.heapforms import are_like, check_heap, check_heap_and_roots, is_value_in, path_over
 from backframes.heaps import renamed_heap
 from backframes.values import is_object
 
@@ -60,20 +60,21 @@ def told_apart(heap, one, other):
     if not is_value_in(other, heap):
         raise InvalidArgument("other")
     _check_size(heap)
-    if not _are_like(heap, one, other):
+    if not are_like(heap, one, heap, other):
         return ()
     pairs = [(one, other)]
-    steps = [None]
+    # How each pair was met first, as the steps of paths are told; the path to the first one is (0,).
+    steps = {0: (None, 0)}
     met = {(one, other): True}
     at = 0
     while at < len(pairs):
         for field, pair in _pairs_behind(heap, pairs[at]):
-            if not _are_like(heap, pair[0], pair[1]):
-                return (*_row_over(steps, at), field)
+            if not are_like(heap, pair[0], heap, pair[1]):
+                return (*path_over(steps, at)[1:], field)
             if pair not in met:
                 met[pair] = True
+                steps[len(pairs)] = (at, field)
                 pairs.append(pair)
-                steps.append((at, field))
         at += 1
     return None
 
@@ -85,23 +86,6 @@ def _pairs_behind(heap, pair):
     fields = heap[pair[0][1]][1]
     others = heap[pair[1][1]][1]
     return [(field, (fields[field], others[field])) for field in sorted(list(fields))]
-
-
-def _are_like(heap, one, other):
-    """Whether two values are alike by themselves, whatever their fields hold."""
-    if not is_object(one) or not is_object(other):
-        return one == other
-    title, fields = heap[one[1]]
-    return title == heap[other[1]][0] and have_same_names(fields, heap[other[1]][1])
-
-
-def _row_over(steps, at):
-    """The row of fields that leads to a pair."""
-    row = []
-    while steps[at] is not None:
-        at, field = steps[at]
-        row.append(field)
-    return row[::-1]
 
 
 def folded_heap(heap, roots):

@@ -9,8 +9,12 @@ from backframes.carried import again, carried, carried_paths, carries, thinned, 
 from backframes.code import Code
 from backframes.errors import CodeError
 from backframes.frames import Backs, FrameState
+from backframes.judging import judge, verdict
 from backframes.kept import farthest_kept, kept_paths, least_kept, live, made_for, restated, serves, shows
+from backframes.papers import least_paper
+from backframes.repair import comes, known_range, least_recipe
 from backframes.source import Source
+from backframes.ways import rows_on, ways
 from tests.samples import all_backs
 from tests.test_kept import read_first
 from tests.wild import wild_backs
@@ -49,6 +53,13 @@ QUESTIONS = (
     lambda backs, point: carries(backs, point, ["r0"]),
     lambda backs, point: [again(backs, point, (turn,)) for turn in (0, 1)],
     lambda backs, point: thinned(backs).state_at(point).frames(),
+    lambda backs, point: judge(backs),
+    lambda backs, point: [verdict(backs, point, turns) for turns, _ in ways(backs.code, point)],
+    lambda backs, point: [rows_on(backs.code, point, turns) for turns, _ in ways(backs.code, point)],
+    comes,
+    lambda backs, point: least_recipe(backs, point, 0, "a"),
+    lambda backs, point: known_range(backs, point, ("number", 3)),
+    lambda backs, point: least_paper(backs, 1),
 )
 
 
@@ -204,6 +215,7 @@ class TestWork(unittest.TestCase):
         asks = (
             lambda backs: live(backs.code, 1), lambda backs: serves(backs, 1, []), lambda backs: shows(backs, 1, []), lambda backs: least_kept(backs, 1),
             lambda backs: farthest_kept(backs, 1), lambda backs: kept_paths(backs, 1), lambda backs: restated(backs, 1, []), lambda backs: to_come(backs, 1),
+            judge, lambda backs: verdict(backs, 1, (0,)), lambda backs: comes(backs, 1), lambda backs: known_range(backs, 1, ("in", "r0")),
         )
         for ask in asks:
             backs = make(12)
@@ -211,6 +223,26 @@ class TestWork(unittest.TestCase):
             later = [calls_of(lambda: ask(backs)) for _ in range(3)]
             self.assertEqual(len(set(later)), 1)
             self.assertLess(later[0] * 4, first)
+
+    def diamonds(self):
+        """Code with 128 ways from its point."""
+        source = Source([], [("f", [("a", "number")], [], "number", [("see", "a"), ("return", "a")])])
+        blocks = [([("r", "number")], [("look", 0)], ("go", 1, ["r"]))]
+        for k in range(1, 8):
+            blocks.append(([(f"p{k}", "number")], [("add", f"s{k}", f"p{k}", "r")], ("if", f"s{k}", (k + 1, ["r"]), (k + 1, [f"s{k}"]))))
+        blocks.append(([("last", "number")], [("see", "r")], ("return", "r")))
+        code = Code(source, "f", blocks)
+        return Backs(code, [FrameState(code, 0, [("f", 0, {"a": ("in", "r")})], unmade={}, own={}, claims=[])])
+
+    def test_many_ways(self):
+        asks = (judge, lambda backs: [verdict(backs, 0, turns) for turns, _ in ways(backs.code, 0)], lambda backs: ways(backs.code, 0), lambda backs: comes(backs, 0))
+        for ask in asks:
+            backs = self.diamonds()
+            first = calls_of(lambda: ask(backs))
+            later = [calls_of(lambda: ask(backs)) for _ in range(2)]
+            self.assertEqual(later[0], later[1])
+            self.assertLess(later[0] * 4, first)
+        self.assertEqual(judge(self.diamonds()), ("right",))
 
     def test_one_point_answers_for_all(self):
         backs = make(12)

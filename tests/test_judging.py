@@ -7,7 +7,6 @@ from backframes.frames import Backs, FrameState
 from backframes.judging import judge, verdict
 from backframes.machine import outcome
 from backframes.runs import ridden
-from backframes.source import Source
 from backframes.ways import ways
 from tests.compiled import VARIABLES, compiled_backs
 from tests.samples import function_source, numbers, objects, odd_things

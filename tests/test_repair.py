@@ -1,9 +1,11 @@
 import itertools
 import random
 import unittest
+from unittest import mock
 
 from backframes.code import Code
 from backframes.errors import InvalidArgument, InvalidCode, InvalidNumber, LimitExceeded
+from backframes.facts import Facts
 from backframes.frames import Backs, FrameState
 from backframes.judging import judge, verdict
 from backframes.repair import comes, known_range, least_recipe, mended
@@ -455,6 +457,34 @@ class TestRandom(unittest.TestCase):
                     recipe = least_recipe(backs, point, at, variable)
                     if all(rows == verdict(backs, start, turns)[1] for start, turns, rows in told):
                         self.assertIsNotNone(recipe)
+
+    def arithmetic(self, chance):
+        """A function and code that reckon with the same numbers, in another order and with other numbers beside them."""
+        words = ["add", "sub", "times", "times", "less", "same"]
+        names, rows = ["a", "b"], [("number", "z", chance.randint(-2, 2))]
+        for name in ("c", "d", "e"):
+            rows.append((chance.choice(words), name, chance.choice(names), chance.choice([*names, "z"])))
+            names.append(name)
+        source = function_source([*rows, ("return", "a")], numbers("a", "b"), numbers("c", "d", "e", "z"))
+        registers, code_rows = ["r", "s"], [("number", "k", chance.randint(-2, 2))]
+        for k in range(8):
+            code_rows.append((chance.choice(words), f"t{k}", chance.choice(registers), chance.choice([*registers, "k"])))
+            registers.append(f"t{k}")
+        end = ("if", chance.choice(registers), (1, []), (2, []))
+        blocks = [(numbers("r", "s"), code_rows, end), ([], [("look", 0)], ("return", "r")), ([], [("look", 1)], ("return", "r"))]
+        code = Code(source, "f", blocks)
+        return Backs(code, [state_of(code, k, 4, {"a": ("number", 0)}) for k in (0, 1)])
+
+    def test_least_recipes_are_found_as_if_all_were_tried(self):
+        found = 0
+        for seed in range(60):
+            backs = [self.arithmetic(random.Random(seed)) for _ in range(2)]
+            for point, variable in itertools.product((0, 1), "cde"):
+                told = least_recipe(backs[0], point, 0, variable)
+                with mock.patch.object(Facts, "keeps_products", lambda facts: False):
+                    self.assertEqual(least_recipe(backs[1], point, 0, variable), told)
+                found += told is not None and len(told) == 3
+        self.assertGreater(found, 40)
 
     def test_many_questions(self):
         for seed in range(40):

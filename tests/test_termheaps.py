@@ -4,7 +4,7 @@ from backframes.errors import InvalidArgument
 from backframes.facts import Facts
 from backframes.termheaps import TermHeap
 from backframes.terms import Terms
-from tests.samples import function_source, numbers, objects, odd_things
+from tests.samples import function_source, numbers, odd_things
 
 
 def heap_source():
