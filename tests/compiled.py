@@ -15,11 +15,15 @@ STRAIGHT = (
 )
 
 
+OBJECTS = ("new", "new", "new", "put", "put", "put", "put", "get", "get", "copy", "same", "see", "add", "number")
+
+
 class Writer:
     """Makes random functions, which call one another."""
 
-    def __init__(self, chance):
+    def __init__(self, chance, words):
         self.chance = chance
+        self.words = words
 
     def source(self, most_rows=9, calls=True):
         inner = [self.straight_row(INNER) for _ in range(self.chance.randint(0, 3))]
@@ -48,7 +52,7 @@ class Writer:
         return self.straight_row(kinds)
 
     def straight_row(self, kinds):
-        word = self.chance.choice(STRAIGHT)
+        word = self.chance.choice(self.words)
         number, thing = self.pick(kinds, "number"), self.pick(kinds, "object")
         if word == "number":
             return ("number", number, self.chance.randint(-2, 2))
@@ -77,8 +81,9 @@ class Compiler:
         self.source = source
         self.bodies = {name: rows for name, _, _, _, rows in source.functions()}
         self.count = 0
-        self.points = []
         self.frames = {}
+        self.unmade = {}
+        self.own = {}
 
     def backs(self):
         rows = self.bodies["f"]
@@ -100,7 +105,8 @@ class Compiler:
         code = Code(self.source, "f", blocks)
         states = []
         for point in code.points():
-            states.append(FrameState(code, point, self.frames[point], unmade={}, own={}, claims=[]))
+            unmade, own = self.unmade.get(point, {}), self.own.get(point, {})
+            states.append(FrameState(code, point, self.frames[point], unmade=unmade, own=own, claims=[]))
         return Backs(code, states)
 
     def reached(self, blocks):
@@ -137,20 +143,24 @@ class Compiler:
             row = rows[r]
             if row[0] == "return":
                 return body, ("return", held[row[1]])
-            given = [held[name] for name in VARIABLES]
             if row[0] == "jump":
-                return body, ("go", numbers[row[1]], given)
+                return body, ("go", numbers[row[1]], self.given(body, held))
             if row[0] == "if":
+                given = self.given(body, held)
                 return body, ("if", held[row[1]], (numbers[r + 1], given), (numbers[row[2]], given))
             if row[0] == "call" and self.chance.random() < 0.5:
                 held[row[1]] = self.put_in(body, r, row, held)
             else:
-                self.straight(body, row, held)
+                self.straight(body, row, held, [held])
             r += 1
             if r in heads:
-                return body, ("go", numbers[r], [held[name] for name in VARIABLES])
+                return body, ("go", numbers[r], self.given(body, held))
             if self.chance.random() < 0.3:
                 self.add_point(body, [("f", r, held, VARIABLES)])
+
+    def given(self, body, held):
+        """The registers that are handed on at the end of a block."""
+        return [held[name] for name in VARIABLES]
 
     def put_in(self, body, r, row, outer):
         """The rows of the called function in the place of the call."""
@@ -162,10 +172,12 @@ class Compiler:
             if self.chance.random() < 0.4:
                 self.add_point(body, [("f", r, waiting, VARIABLES), ("g", at, held, INNER)])
             if inner[0] == "return":
+                outer.update(waiting)
                 return held[inner[1]]
-            self.straight(body, inner, held)
+            self.straight(body, inner, held, [held, waiting])
 
-    def straight(self, body, row, held):
+    def straight(self, body, row, held, tables):
+        """The rows for a row that goes on to the next one; tables are all dicts of variables at this place."""
         if row[0] == "copy":
             held[row[1]] = held[row[2]]
             return
@@ -201,10 +213,132 @@ def goals(end):
     return list(end[2:]) if end[0] == "if" else []
 
 
-def compiled_backs(chance, most_rows=9, calls=True):
+class Thrifty(Compiler):
+    """Code that does not make objects as long as nothing else refers to them: a variable has a number in their place."""
+
+    def __init__(self, chance, source):
+        super().__init__(chance, source)
+        self.parts = {}
+
+    def straight(self, body, row, held, tables):
+        word = row[0]
+        thing = held.get(row[2]) if word == "get" else held.get(row[1]) if word in ("put", "see") else None
+        if word == "new":
+            held[row[1]] = len(self.parts)
+            fields = dict(next(fields for title, fields in self.source.classes() if title == row[2]))
+            self.parts[held[row[1]]] = (row[2], {field: self.blank(body, fields[field]) for field in fields})
+        elif word == "same" and isinstance(held[row[2]], int) | isinstance(held[row[3]], int):
+            same = int(held[row[2]] == held[row[3]])
+            held[row[1]] = self.new("t")
+            body.append(("number", held[row[1]], same))
+        elif word == "see" and isinstance(thing, int):
+            # Any object of the class will do, as nothing else is seen of it.
+            body.extend([("new", self.new("t"), self.parts[thing][0]), ("see", f"t{self.count}")])
+        elif word == "get" and isinstance(thing, int):
+            fields = self.parts[thing][1]
+            held[row[1]] = fields[row[3]] if row[3] in fields else self.blank(body, FIELDS[row[3]])
+        elif word == "put" and isinstance(thing, int):
+            if row[2] in self.parts[thing][1]:
+                self.parts[thing][1][row[2]] = held[row[3]]
+        else:
+            if word == "put":
+                self.make(body, [held[row[3]]], tables)
+            if word == "call":
+                self.make(body, [held[name] for name in row[3]], tables)
+            super().straight(body, row, held, tables)
+
+    def blank(self, body, kind):
+        name = self.new("z")
+        body.append(("number", name, 0) if kind == "number" else ("nil", name))
+        return name
+
+    def led_to(self, values):
+        met = []
+        waiting = [value for value in values if isinstance(value, int)]
+        while waiting:
+            k = waiting.pop()
+            if k not in met:
+                met.append(k)
+                waiting.extend(value for value in self.parts[k][1].values() if isinstance(value, int))
+        return sorted(met)
+
+    def make(self, body, values, tables):
+        """Make the objects to which values lead, and let all that has them have their registers."""
+        names = {k: self.new("m") for k in self.led_to(values)}
+        body.extend(("new", names[k], self.parts[k][0]) for k in names)
+        for table in [*tables, *[fields for _, fields in self.parts.values()]]:
+            for name in table:
+                if isinstance(table[name], int):
+                    table[name] = names.get(table[name], table[name])
+        for k in names:
+            body.extend(("put", names[k], field, value) for field, value in self.parts[k][1].items())
+
+    def given(self, body, held):
+        self.make(body, list(held.values()), [held])
+        return super().given(body, held)
+
+    def add_point(self, body, frames):
+        needed = self.led_to([value for _, _, held, _ in frames for value in held.values()])
+        if len(needed) > 5:
+            return
+        names = {k: at for at, k in enumerate(needed)}
+
+        def told(table):
+            return {name: ("unmade", names[table[name]]) if isinstance(table[name], int) else ("in", table[name]) for name in table}
+
+        point = len(self.frames)
+        super().add_point(body, frames)
+        self.frames[point] = [(name, r, told(held)) for name, r, held, _ in frames]
+        self.unmade[point] = {names[k]: (self.parts[k][0], told(self.parts[k][1])) for k in needed}
+
+
+class Owner(Thrifty):
+    """Code that makes all objects, but does not read again what it has put into those that are its own."""
+
+    def __init__(self, chance, source):
+        super().__init__(chance, source)
+        self.names = {}
+
+    def straight(self, body, row, held, tables):
+        thing = held.get(row[1]) if row[0] in ("put", "see") else None
+        if row[0] == "new":
+            self.names[len(self.parts)] = self.new("m")
+            body.append(("new", self.names[len(self.parts)], row[2]))
+        if isinstance(thing, int):
+            value = held.get(row[-1])
+            rest = [] if row[0] == "see" else [row[2], self.names.get(value, value)]
+            body.append((row[0], self.names[thing], *rest))
+        if row[0] != "see" or not isinstance(thing, int):
+            super().straight(body, row, held, tables)
+
+    def make(self, body, values, tables):
+        """The objects to which values lead are not own ones any more."""
+        names = {k: self.names[k] for k in self.led_to(values)}
+        for table in [*tables, *[fields for _, fields in self.parts.values()]]:
+            for name in table:
+                if isinstance(table[name], int):
+                    table[name] = names.get(table[name], table[name])
+
+    def add_point(self, body, frames):
+        needed = self.led_to([value for _, _, held, _ in frames for value in held.values()])
+
+        def told(table):
+            return {name: ("in", self.names.get(table[name], table[name])) for name in table}
+
+        point = len(self.frames)
+        Compiler.add_point(self, body, frames)
+        self.frames[point] = [(name, r, told(held)) for name, r, held, _ in frames]
+        self.own[point] = {self.names[k]: (self.parts[k][0], told(self.parts[k][1])) for k in needed}
+
+
+COMPILERS = {"plain": Compiler, "thrifty": Thrifty, "owner": Owner}
+
+
+def compiled_backs(chance, most_rows=9, calls=True, compiler="plain"):
     """Code with right frame states for each of its points."""
     while True:
         try:
-            return Compiler(chance, Writer(chance).source(most_rows, calls)).backs()
+            source = Writer(chance, STRAIGHT if compiler == "plain" else OBJECTS).source(most_rows, calls)
+            return COMPILERS[compiler](chance, source).backs()
         except InvalidCode:
             continue

@@ -702,18 +702,22 @@ def tells_the_same(backs, arguments, choice):
 
 
 def with_other_recipe(chance, backs):
-    """The same code with another recipe for one variable."""
+    """The same code with another recipe for one variable, or for one field of an unmade or own object."""
     states = backs.states()
     at = chance.randrange(len(states))
-    frames = states[at].frames()
-    recipes = frames[chance.randrange(len(frames))][2]
-    variable = chance.choice(list(recipes))
-    kind = {**VARIABLES, "n": "number", "m": "number"}.get(variable, "object")
-    names = [name for name in backs.code.usable(states[at].point) if backs.code.kinds()[name] == kind]
-    recipes[variable] = reg(chance.choice(names))
+    frames, unmade, own = states[at].frames(), states[at].unmade(), states[at].own()
+    of_own = [fields for _, fields in own.values()]
+    recipes = chance.choice([table for table in [*[frame[2] for frame in frames], *[fields for _, fields in unmade.values()], *of_own] if table])
+    name = chance.choice(list(recipes))
+    kind = {**VARIABLES, "n": "number", "m": "number", "item": "number"}.get(name, "object")
+    names = [register for register in backs.code.usable(states[at].point) if backs.code.kinds()[register] == kind]
+    choices = [reg(register) for register in names]
+    if kind == "object":
+        choices.extend([("nil",), *([] if any(recipes is fields for fields in of_own) else [("unmade", k) for k in unmade] * 2)])
+    recipes[name] = chance.choice(choices)
     if kind == "number" and chance.random() < 0.4:
-        recipes[variable] = (chance.choice(["add", "sub", "times", "less", "same"]), reg(chance.choice(names)), reg(chance.choice(names)))
-    states[at] = state_of(backs.code, states[at].point, frames, None)
+        recipes[name] = (chance.choice(["add", "sub", "times", "less", "same"]), reg(chance.choice(names)), reg(chance.choice(names)))
+    states[at] = state_of(backs.code, states[at].point, frames, None, unmade=unmade, own=own)
     return Backs(backs.code, states)
 
 
@@ -741,6 +745,27 @@ class TestFacts(unittest.TestCase):
                 words.append(self.check(with_other_recipe(chance, backs)))
         for word in ("right", "state", "events"):
             self.assertGreater(words.count(word), 3, word)
+
+    def test_objects_that_are_not_made_and_own_ones(self):
+        for compiler in ("thrifty", "owner"):
+            words, with_objects = [], 0
+            for seed in range(200):
+                backs = compiled_backs(random.Random(seed), compiler=compiler)
+                with_objects += any(state.unmade() or state.own() for state in backs.states())
+                words.append(self.check(backs))
+            self.assertEqual(set(words), {"right", "circle"})
+            self.assertGreater(with_objects, 40)
+
+    def test_such_objects_with_another_recipe(self):
+        for compiler in ("thrifty", "owner"):
+            words = []
+            for seed in range(200):
+                chance = random.Random(seed)
+                backs = compiled_backs(chance, compiler=compiler)
+                if backs.code.points():
+                    words.append(self.check(with_other_recipe(chance, backs)))
+            for word, many in (("right", 20), ("state", 20), ("events", 1)):
+                self.assertGreater(words.count(word), many, word)
 
     def test_any_code(self):
         for seed in range(80):
