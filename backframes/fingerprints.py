@@ -4,7 +4,7 @@ A fingerprint is the value of a term, but for multiples of a great prime, if eac
 terms that are the same have the same one, and the one of a sum or a product is that of theirs.
 """
 
-from backframes.termforms import atoms_in, atoms_within
+from backframes.termforms import atoms_in
 from backframes.values import operated
 
 PRIME = 2 ** 61 - 1
@@ -40,7 +40,7 @@ class Fingerprints:
         while waiting:
             atom = waiting[-1]
             told = self._terms.atom(atom)
-            inner = atoms_within(told) if told[0] == "times" else []
+            inner = self._terms.atoms_within(atom) if told[0] == "times" else []
             lacking = [other for other in inner if other not in self._atoms]
             waiting.extend(lacking)
             if len(lacking) == 0:

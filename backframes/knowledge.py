@@ -5,7 +5,7 @@ values that the sum does not have, all of them between the ends.
 """
 
 from backframes.rewriting import Rewriter
-from backframes.termforms import NumberTerm, ObjectTerm, atoms_in, atoms_within, only_atom, primitive_of
+from backframes.termforms import NumberTerm, ObjectTerm, atoms_in, only_atom, primitive_of
 
 ANYTHING = (None, None, ())
 EITHER = (0, 1, ())
@@ -63,7 +63,7 @@ class Knowledge:
         for atom in range(self._terms.many_atoms()):
             told = self._terms.atom(atom)
             word = told[2] if told[0] == "asked" else told[0]
-            held.append(word in barred or any([held[inner] for inner in atoms_within(told)]))
+            held.append(word in barred or any([held[inner] for inner in self._terms.atoms_within(atom)]))
         return held
 
     def tells_as(self, other):

@@ -1,6 +1,6 @@
 """Terms that are made anew, with other terms in the place of some atoms, also within atoms."""
 
-from backframes.termforms import NumberTerm, ObjectTerm, added, atoms_in, atoms_within, is_term, number_atom
+from backframes.termforms import NumberTerm, ObjectTerm, added, atoms_in, is_term, number_atom
 
 
 class Rewriter:
@@ -22,14 +22,16 @@ class Rewriter:
 
     def renewed(self, term):
         """A term with all that is put in."""
-        self._find(atoms_in(term))
-        return self._with_found(term)
+        atoms = atoms_in(term)
+        for atom in atoms:
+            if atom not in self._found:
+                self._find([atom])
+        return self._with_found(term, atoms)
 
     def renewed_within(self, atom):
         """The term of an atom with all that is put into its parts, though not in its own place."""
-        told = self._terms.atom(atom)
-        self._find(atoms_within(told))
-        rebuilt = self._rebuilt(atom, told)
+        self._find(self._terms.atoms_within(atom))
+        rebuilt = self._rebuilt(atom)
         return rebuilt if rebuilt == self._own(atom) else self.renewed(rebuilt)
 
     def _find(self, atoms):
@@ -48,18 +50,18 @@ class Rewriter:
         if fixed is not None:
             self._found[atom] = fixed
             return []
-        told = self._terms.atom(atom)
-        within = atoms_within(told)
+        within = self._terms.atoms_within(atom)
         lacking = self._lacking(within)
         if len(lacking) > 0:
             return lacking
-        if not any([self._found[other] is not None for other in within]):
+        if not self._changes(within):
             self._found[atom] = self._rules.settled(atom)
             return []
-        rebuilt = self._rebuilt(atom, told)
-        lacking = self._lacking(atoms_in(rebuilt))
+        rebuilt = self._rebuilt(atom)
+        atoms = atoms_in(rebuilt)
+        lacking = self._lacking(atoms)
         if len(lacking) == 0:
-            self._found[atom] = self._with_found(rebuilt)
+            self._found[atom] = self._with_found(rebuilt, atoms)
         return lacking
 
     def _lacking(self, atoms):
@@ -72,9 +74,10 @@ class Rewriter:
             return ObjectTerm(atom) if told[1] == "object" else number_atom(atom)
         return number_atom(atom) if told[0] in ("above", "equal", "alike", "times") else ObjectTerm(atom)
 
-    def _rebuilt(self, atom, told):
+    def _rebuilt(self, atom):
         """The term of an atom whose parts are made anew."""
-        parts = [self._with_found(part) if is_term(part) else part for part in told]
+        told = self._terms.atom(atom)
+        parts = [self._with_found(part, atoms_in(part)) if is_term(part) else part for part in told]
         word = told[0]
         if word == "above":
             return self._terms.made("less", self._terms.constant(parts[2]), parts[1])
@@ -88,22 +91,26 @@ class Rewriter:
             return self._terms.asked(parts[2], parts[1], parts[3:])
         return self._own(atom)
 
-    def _with_found(self, term):
-        """A term in which all atoms have been looked at, with what stands in their places."""
-        changed = [atom for atom in atoms_in(term) if self._found[atom] is not None]
-        if len(changed) == 0:
+    def _with_found(self, term, atoms):
+        """A term in which all atoms, those of a list, have been looked at, with what stands in their places."""
+        if not self._changes(atoms):
             return term
         if isinstance(term, ObjectTerm):
             return self._found[term.number]
-        kept = [piece for piece in term.pieces if not self._changes(piece)]
+        changing = [self._changes([atom for atom, _ in held]) for _, held in term.pieces]
+        kept = [piece for piece, changes in zip(term.pieces, changing) if not changes]
         total = NumberTerm(term.integer, tuple(kept))
-        for piece in term.pieces:
-            if self._changes(piece):
-                total = added(total, self._product(piece[1]), piece[0])
+        for (factor, held), changes in zip(term.pieces, changing):
+            if changes:
+                total = added(total, self._product(held), factor)
         return total
 
-    def _changes(self, piece):
-        return any([self._found[atom] is not None for atom, _ in piece[1]])
+    def _changes(self, atoms):
+        """Whether something stands in the place of one of the atoms."""
+        for atom in atoms:
+            if self._found[atom] is not None:
+                return True
+        return False
 
     def _product(self, atoms):
         product = None

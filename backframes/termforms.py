@@ -48,11 +48,6 @@ def atoms_in(term):
     return [atom for _, atoms in term.pieces for atom, _ in atoms]
 
 
-def atoms_within(told):
-    """The list of the atoms in the parts of an atom, without those within these."""
-    return [atom for part in told if is_term(part) for atom in atoms_in(part)]
-
-
 def only_atom(pieces):
     """The atom of which a sum consists, or None for another sum."""
     if len(pieces) != 1 or pieces[0][0] != 1 or len(pieces[0][1]) != 1 or pieces[0][1][0][1] != 1:

@@ -3,7 +3,8 @@
 from backframes.errors import InvalidArgument, InvalidNumber
 from backframes.plain import is_integer, is_kind
 from backframes.termforms import (
-    NumberTerm, ObjectTerm, added, comes_ahead, is_too_great, key_of, multiplied, number_atom, primitive_of, rank_of,
+    NumberTerm, ObjectTerm, added, atoms_in, comes_ahead, is_term, is_too_great, key_of, multiplied, number_atom,
+    primitive_of, rank_of,
 )
 from backframes.values import OPERATIONS
 
@@ -14,6 +15,8 @@ class Terms:
     def __init__(self):
         self._atoms = []
         self._numbers = {}
+        # For each atom the atoms in its parts, as these are asked for again and again.
+        self._within = []
 
     def constant(self, n):
         """The term of an integer."""
@@ -43,6 +46,7 @@ class Terms:
         if key not in self._numbers:
             self._numbers[key] = len(self._atoms)
             self._atoms.append(told)
+            self._within.append(tuple([atom for part in told if is_term(part) for atom in atoms_in(part)]))
         number = self._numbers[key]
         return ObjectTerm(number) if kind == "object" else number_atom(number)
 
@@ -110,6 +114,10 @@ class Terms:
         if not is_integer(number) or not 0 <= number < len(self._atoms):
             raise InvalidNumber(number)
         return self._atoms[number]
+
+    def atoms_within(self, number):
+        """The tuple of the atoms in the parts of an atom, without those within these."""
+        return self._within[number]
 
     def many_atoms(self):
         """How many atoms have come up."""
