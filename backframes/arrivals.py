@@ -6,6 +6,8 @@ from backframes.goneways import gone_way
 from backframes.holding import Holding
 from backframes.judging import all_ways
 
+MOST_KEPT = 400
+
 
 class Arrival:
     """A way to a point that is not impossible, with the interpreter where it first comes to the point."""
@@ -69,12 +71,15 @@ def arrivals_at(backs, point):
     """The list of the arrivals at a point, in the order of the judge."""
     state = backs.state_at(point)
     found = all_ways(backs)
-    # Several questions in a row are often about one point; the arrivals at all points would take much room.
     told = backs.answer("arrivals")
-    if told is None or told[0] != point:
-        told = (point, tuple(_found_arrivals(backs, state, found)))
+    # Those at other points are kept as long as they do not take much room.
+    if told is None or point not in told and sum([len(told[other]) for other in told]) > MOST_KEPT:
+        told = {}
+    if point not in told:
+        told = {other: told[other] for other in told}
+        told[point] = tuple(_found_arrivals(backs, state, found))
         backs.note_answer("arrivals", told)
-    return list(told[1])
+    return list(told[point])
 
 
 def _found_arrivals(backs, state, found):

@@ -13,6 +13,7 @@ MOST_PARAMETERS = 4
 MOST_ROWS_OF_BLOCK = 20
 MOST_ROWS = 60
 MOST_POINTS = 12
+MOST_NOTED = 600
 
 
 class Code:
@@ -43,6 +44,7 @@ class Code:
         self._living = {}
         self._standing = {}
         self._ways = {}
+        self._gone = {}
 
     def _take_block(self, k, block):
         if not _is_head(block) or not self._are_new(block[0]):
@@ -171,6 +173,15 @@ class Code:
     def note_ways(self, start, found):
         """Note what was found of the ways from a start, in tuples alone: code never changes."""
         self._ways[start] = found
+
+    def noted_gone(self, way):
+        """What was noted of how a way, told by its start and its turns, was gone; None if nothing was."""
+        return self._gone.get(way)
+
+    def note_gone(self, way, told):
+        """Note how a way was gone, unless this would take too much room."""
+        if way in self._gone or len(self._gone) < MOST_NOTED:
+            self._gone[way] = told
 
     def again_rows(self):
         """A dict with the rows of all registers that can be computed again."""

@@ -71,10 +71,23 @@ class GoneWay:
 
 
 def gone_way(backs, start, turns):
-    """A way that has been gone with all that is known at its end; None if it is impossible."""
+    """A way that has been gone with all that is known at its end; None if it is impossible.
+
+    It is noted with all of a frame state on which it depends, as it may be asked for again with others.
+    """
+    state = None if start is None else backs.state_at(start)
+    told = None if state is None else (state.own(), state.claims())
+    noted = backs.code.noted_gone((start, turns))
+    if noted is None or noted[0] != told:
+        noted = (told, _gone_to_end(backs, start, turns))
+        backs.code.note_gone((start, turns), noted)
+    return noted[1]
+
+
+def _gone_to_end(backs, start, turns):
+    """The way, gone again and again until nothing new is known."""
     rows = rows_on(backs.code, start, turns)
-    terms = Terms()
-    known = Facts(terms)
+    known = Facts(Terms())
     way = _gone_once(backs, start, turns, rows, known)
     for _ in range(MOST_TIMES):
         told = None if way is None else way.facts.restricted(BARRED)

@@ -15,6 +15,7 @@ from backframes.papers import least_paper
 from backframes.repair import comes, known_range, least_recipe
 from backframes.source import Source
 from backframes.ways import rows_on, ways
+from tests.compiled import compiled_backs
 from tests.samples import all_backs
 from tests.test_kept import read_first
 from tests.wild import wild_backs
@@ -179,6 +180,32 @@ class TestNothingIsSeen(unittest.TestCase):
             self.ask_all(one)
             for point in other.code.points():
                 self.assertEqual(live(other.code, point), live(make(len(other.code.blocks())).code, point))
+
+    def stripped(self, backs, code):
+        """Frame states without own objects and claims, of equal code."""
+        states = [FrameState(code, state.point, state.frames(), unmade=state.unmade(), own={}, claims=[]) for state in backs.states()]
+        return Backs(code, states)
+
+    def test_ways_of_the_same_code_with_other_frame_states(self):
+        unlike = 0
+        for seed in range(60):
+            fresh = [compiled_backs(random.Random(seed), compiler="owner") for _ in range(2)]
+            expected = [self.all_verdicts(fresh[0]), self.all_verdicts(self.stripped(fresh[1], fresh[1].code))]
+            backs = compiled_backs(random.Random(seed), compiler="owner")
+            others = self.stripped(backs, backs.code)
+            for _ in range(2):
+                self.assertEqual([self.all_verdicts(backs), self.all_verdicts(others)], expected)
+                backs, others = Backs(backs.code, backs.states()), Backs(backs.code, others.states())
+            unlike += expected[0] != expected[1]
+        self.assertGreater(unlike, 5)
+
+    def all_verdicts(self, backs):
+        told = [judge(backs)]
+        for start in (None, *backs.code.points()):
+            told.extend(verdict(backs, start, turns) for turns, _ in ways(backs.code, start))
+        for point in backs.code.points():
+            told.extend([comes(backs, point), least_recipe(backs, point, 0, "a"), least_recipe(backs, point, 0, "o")])
+        return told
 
     def test_other_frame_states_of_the_same_code(self):
         first = make(4)
