@@ -188,8 +188,10 @@ class TestNothingIsSeen(unittest.TestCase):
 
     def test_ways_of_the_same_code_with_other_frame_states(self):
         unlike = 0
-        for seed in range(60):
+        for seed in range(300):
             fresh = [compiled_backs(random.Random(seed), compiler="owner") for _ in range(2)]
+            if not any(state.own() for state in fresh[0].states()):
+                continue
             expected = [self.all_verdicts(fresh[0]), self.all_verdicts(self.stripped(fresh[1], fresh[1].code))]
             backs = compiled_backs(random.Random(seed), compiler="owner")
             others = self.stripped(backs, backs.code)
@@ -197,7 +199,7 @@ class TestNothingIsSeen(unittest.TestCase):
                 self.assertEqual([self.all_verdicts(backs), self.all_verdicts(others)], expected)
                 backs, others = Backs(backs.code, backs.states()), Backs(backs.code, others.states())
             unlike += expected[0] != expected[1]
-        self.assertGreater(unlike, 5)
+        self.assertGreater(unlike, 3)
 
     def all_verdicts(self, backs):
         told = [judge(backs)]
