@@ -273,6 +273,19 @@ class TestWork(unittest.TestCase):
             self.assertLess(later[0] * 4, first)
         self.assertEqual(judge(self.diamonds()), ("right",))
 
+    def test_points_that_are_asked_in_turn(self):
+        backs = make(12)
+        first = calls_of(lambda: [comes(backs, point) for point in range(1, 11)])
+        later = calls_of(lambda: [comes(backs, point) for point in range(1, 11)])
+        self.assertLess(later * 4, first)
+
+    def test_other_frame_states_are_judged_in_less_time(self):
+        """What the code does on its ways is the same for all of its frame states."""
+        backs = self.diamonds()
+        first = calls_of(lambda: judge(backs))
+        later = calls_of(lambda: judge(Backs(backs.code, backs.states())))
+        self.assertLess(later * 2, first)
+
     def test_one_point_answers_for_all(self):
         backs = make(12)
         first = calls_of(lambda: live(backs.code, 1))

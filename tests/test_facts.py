@@ -102,6 +102,8 @@ class TestSums(FactsCase):
         difference = self.made("sub", y, x)
         self.assertEqual([self.facts.ends(difference), self.facts.zero(self.made("add", difference, 4))], [(-4, -4), "zero"])
         self.assertTrue(self.facts.known(difference) == difference)
+        self.assertTrue(self.facts.known(self.made("same", difference, -4)) == self.terms.constant(1))
+        self.assertTrue(self.facts.known(self.made("same", self.made("times", difference, 3), -12)) == self.terms.constant(1))
         self.assertFalse(self.facts.assume(self.made("add", difference, 4), False))
         self.assertEqual(self.facts.zero(self.made("same", self.made("times", x, 2), self.made("add", self.made("times", y, 2), 8))), "other")
 
@@ -161,6 +163,32 @@ class TestSums(FactsCase):
         self.assertFalse(self.facts.assume(self.made("sub", y, 4), True))
         self.assertTrue(self.facts.assume(self.made("less", y, 3), True))
         self.assertTrue(self.facts.known(y) == self.terms.constant(3))
+
+    def test_one_tells_another_over_many_steps(self):
+        names = [self.number(name) for name in "abcdef"]
+        for one, other in zip(names, names[1:]):
+            self.assertTrue(self.facts.assume(self.made("sub", self.made("times", one, other), 6), True))
+        self.assertTrue(self.facts.assume(self.made("sub", names[0], 2), True))
+        self.assertEqual([self.facts.ends(term) for term in names], [(2, 2), (3, 3)] * 3)
+        self.assertTrue(self.facts.known(names[5]) == self.terms.constant(3))
+
+    def test_two_sums_that_tell_unlike_integers(self):
+        u, y = self.number("u"), self.number("y")
+        self.assertTrue(self.facts.assume(self.made("sub", self.made("times", u, y), 6), True))
+        self.assertTrue(self.facts.assume(self.made("sub", self.made("times", self.made("times", u, u), y), 8), True))
+        self.assertFalse(self.facts.assume(self.made("sub", u, 2), True))
+        self.assertEqual([self.facts.ends(u), self.facts.ends(y)], [(None, None), (None, None)])
+
+    def test_values_that_multiples_lack(self):
+        """2 * y is neither 6 nor 5, so y is not 3; and -3 * y is not 6."""
+        x, y, z = self.number("x"), self.number("y"), self.number("z")
+        for term, value in ((self.made("times", x, y), 6), (self.made("times", x, y), 5), (self.made("times", z, y), 6)):
+            self.assertTrue(self.facts.assume(self.made("sub", term, value), False))
+        self.assertTrue(self.facts.assume(self.made("sub", x, 2), True))
+        self.assertTrue(self.facts.assume(self.made("add", z, 3), True))
+        self.assertEqual([self.facts.zero(self.made("sub", y, k)) for k in (-2, 2, 3, 5, 6)], ["other", "open", "other", "open", "open"])
+        self.holds("less", 2, y)
+        self.assertEqual(self.facts.ends(y), (4, None))
 
     def test_sums_that_become_one(self):
         x, y, z = self.number("x"), self.number("y"), self.number("z")

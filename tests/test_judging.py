@@ -136,6 +136,20 @@ class TestIfs(JudgeCase):
         self.is_right(backs, 0, None, 5)
         self.assertEqual([verdict(backs, 4, (0,)), verdict(backs, 4, (1,))], [("right", 5), ("impossible", None)])
 
+    def test_guards_that_are_never_passed(self):
+        code = Code(self.source, "f", [(numbers("r"), [("number", "n", 0), ("guard", "n", 4), ("see", "r")], ("return", "n"))])
+        backs = Backs(code, [state_of(code, 4, 0, {"a": reg("r")})])
+        self.assertEqual([verdict(backs, 4, ()), judge(backs)], [("impossible", None), ("right",)])
+
+    def test_objects_that_are_known_to_be_unlike(self):
+        """That two objects are unlike is asked behind the reading of one of them."""
+        rows = [("put", "o", "item", "a"), ("put", "p", "item", "b"), ("get", "n", "o", "item"), ("return", "n")]
+        source = function_source(rows, numbers("a", "b") + objects("o", "p"), numbers("n"))
+        code_rows = [("put", "x", "item", "r"), ("put", "y", "item", "s"), ("get", "i", "x", "item"), ("same", "e", "x", "y")]
+        blocks = [(numbers("r", "s") + objects("x", "y"), code_rows, ("if", "e", (1, []), (1, []))), ([], [], ("return", "i"))]
+        code = Code(source, "f", blocks)
+        self.assertEqual([verdict(Backs(code, []), None, (turn,)) for turn in (0, 1)], [("right", 3)] * 2)
+
     def test_claims_tell_what_is_not_passed(self):
         rows = [("number", "n", 3), ("less", "s", "r", "n")]
         behind = [("look", 1), ("see", "r"), ("number", "o", 1)]
@@ -234,6 +248,19 @@ class TestLoops(JudgeCase):
             self.assertEqual([verdict(backs, 2, ()), verdict(backs, 5, ())], [at_return, ("right", 0)])
             recipes = {"a": ("number", count - 1), "o": ("number", 1), "b": ("number", 0)}
             self.assertEqual(verdict(Backs(code, [first, state_of(code, 5, 2, recipes)]), 2, ()), at_jump)
+
+    def test_two_hundred_and_one_rows(self):
+        rows = [("sub", "a", "a", "o"), ("if", "a", 3), ("jump", 0), ("return", "b")]
+        source = function_source(rows, numbers("a"), numbers("b", "o"))
+        code = Code(source, "f", [(numbers("r"), [("look", 2), ("number", "m", 0), ("look", 5)], ("return", "m"))])
+        for row, word in ((0, ("right", 200)), (2, ("far", None))):
+            first = state_of(code, 2, row, {"a": ("number", 67), "o": ("number", 1), "b": ("number", 0)})
+            for last in (("look", 5), ("number", "z", 0)):
+                other = Code(source, "f", [(numbers("r"), [("look", 2), ("number", "m", 0), last], ("return", "m"))])
+                states = [FrameState(other, 2, first.frames(), unmade={}, own={}, claims=[])]
+                if last == ("look", 5):
+                    states.append(state_of(other, 5, 3, {"b": reg("m")}))
+                self.assertEqual(verdict(Backs(other, states), 2, ()), word)
 
     def test_two_hundred_rows_to_a_return(self):
         rows = [("sub", "a", "a", "o"), ("if", "a", 3), ("jump", 0), ("return", "b")]

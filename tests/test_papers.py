@@ -211,6 +211,13 @@ class TestLanding(unittest.TestCase):
             backs = Backs(code, [FrameState(code, 0, frames, unmade={}, own={}, claims=[])])
             self.assertEqual(landing(backs, [4], choice=(0, 0)), told)
 
+    def test_arguments_of_a_call_that_waits_do_not_matter(self):
+        inner = ("g", numbers("n"), [], "number", [("see", "n"), ("return", "n")])
+        source = function_source([("call", "b", "g", ["a"]), ("return", "b")], numbers("a"), numbers("b"), more=[inner])
+        code = Code(source, "f", [(numbers("r"), [("look", 0)], ("return", "r"))])
+        backs = Backs(code, [FrameState(code, 0, [("f", 0, {}), ("g", 0, {"n": reg("r")})], unmade={}, own={}, claims=[])])
+        self.assertEqual(landing(backs, [4], choice=(0, 0)), (0, 0, 1))
+
     def test_objects_are_alike(self):
         rows = [("new", "p", "box"), ("new", "o", "cell"), ("put", "o", "next", "o"), ("see", "a"), ("return", "o")]
         source = function_source(rows, numbers("a"), objects("o", "p"), kind="object")
@@ -355,6 +362,14 @@ class TestPapers(unittest.TestCase):
         self.assertEqual(point_papers(backs, 1), [(1, None), (2, None)])
         backs = simple(source, numbers("r"), [("look", 1), *great[:3], ("look", 2), great[3]], "r", [(1, 0, {"a": reg("r")}), (2, 0, {"a": ("number", 4)})])
         self.assertEqual(point_papers(backs, 1), [(1, None), (2, ([0], (2, 0)))])
+
+    def test_going_back_that_raises_an_error(self):
+        """Numbers that are too great for going back show nothing, neither there nor later."""
+        source = function_source([("return", "a")], numbers("a"))
+        great = [("number", "n", 10 ** 9), ("times", "m", "n", "n"), ("times", "m2", "m", "m"), ("times", "m3", "m2", "m")]
+        states = [(1, 0, {"a": ("times", reg("m3"), ("number", 10 ** 9))}), (2, 0, {"a": reg("m3")})]
+        backs = simple(source, numbers("r"), [*great, ("look", 1), ("look", 2)], "r", states)
+        self.assertEqual([least_paper(backs, 0), point_papers(backs, 0)], [([0], (2, 0)), [(1, None), (2, ([0], (2, 0)))]])
 
     def test_each_point_has_its_paper(self):
         source = function_source([("see", "a"), ("return", "a")], numbers("a"))

@@ -211,6 +211,50 @@ class TestLeastRecipe(unittest.TestCase):
         backs = Backs(code, [state_of(code, 0, 5, {"n": ("number", 0)})])
         self.assertEqual(least_recipe(backs, 0, 0, "n"), ("times", reg("r"), ("number", 7)))
 
+    def test_registers_that_are_known_to_be_0(self):
+        """a is known to be b, so that their difference is 0; its multiples tell nothing else."""
+        rows = [("same", "n", "a", "b"), ("if", "n", 5), ("number", "m", 7), ("times", "n", "a", "m"), ("jump", 5), ("return", "n")]
+        source = function_source(rows, numbers("a", "b"), numbers("n", "m"))
+        first = [("same", "e", "r", "s"), ("sub", "aa", "r", "s")]
+        for times, told in ((5, None), (7, reg("u"))):
+            inner = [("number", "k", times), ("times", "u", "s", "k"), ("look", 0)]
+            blocks = [(numbers("r", "s"), first, ("if", "e", (1, []), (2, []))), ([], inner, ("return", "r")), ([], [], ("return", "e"))]
+            code = Code(source, "f", blocks)
+            backs = Backs(code, [state_of(code, 0, 4, {"n": ("number", 0)})])
+            self.assertEqual(least_recipe(backs, 0, 0, "n"), told or ("times", reg("r"), ("number", 7)))
+            self.assertEqual(known_range(backs, 0, reg("aa")), (0, 0))
+
+    def test_both_are_changed_by_what_is_known_to_be_0(self):
+        """With a = 2 * b, what the source has, 4 * a + 6 * b, is 7 * a."""
+        sums = [("add", "m", "b", "b"), ("same", "n", "a", "m"), ("if", "n", 9)]
+        rows = [*sums, ("number", "n", 4), ("times", "n", "a", "n"), ("number", "m", 6), ("times", "m", "b", "m"), ("add", "n", "n", "m"), ("jump", 9), ("return", "n")]
+        source = function_source(rows, numbers("a", "b"), numbers("n", "m"))
+        first = [("add", "t", "s", "s"), ("same", "e", "r", "t")]
+        inner = [("number", "k", 29), ("look", 0)]
+        blocks = [(numbers("r", "s"), first, ("if", "e", (1, []), (2, []))), ([], inner, ("return", "r")), ([], [], ("return", "e"))]
+        code = Code(source, "f", blocks)
+        backs = Backs(code, [state_of(code, 0, 8, {"n": ("number", 0)})])
+        self.assertEqual(least_recipe(backs, 0, 0, "n"), ("times", reg("r"), ("number", 7)))
+
+    def test_products_that_are_too_great(self):
+        """Powers above 20 are not multiplied out; that of the source is made of the same factors as that of the code."""
+        def squares(first, name, many):
+            return [("times", f"{name}{k + 1}", f"{name}{k}" if k else first, f"{name}{k}" if k else first) for k in range(many)]
+
+        source_rows = [("times", "n", "a", "a"), ("times", "n", "n", "n"), ("times", "n", "n", "n"), ("times", "m", "n", "n")]
+        for last, told in ((("times", "n", "m", "n"), ("times", reg("t3"), reg("t4"))), (("times", "n", "m", "m"), ("times", reg("t4"), reg("t4"))),
+                           (("add", "n", "n", "m"), ("add", reg("t3"), reg("t4"))), (("times", "n", "n", "n"), reg("t4"))):
+            source = function_source([*source_rows, last, ("return", "n")], numbers("a"), numbers("n", "m"))
+            code = Code(source, "f", [(numbers("r"), [*squares("r", "t", 4), ("look", 0)], ("return", "r"))])
+            backs = Backs(code, [state_of(code, 0, 5, {"n": ("number", 0)})])
+            self.assertEqual(least_recipe(backs, 0, 0, "n"), told)
+        rows = [*source_rows, ("times", "n", "m", "n"), ("times", "n", "n", "m"), ("return", "n")]
+        source = function_source(rows, numbers("a"), numbers("n", "m"))
+        code_rows = [*squares("r", "t", 4), ("times", "u", "t3", "t4")]
+        code = Code(source, "f", [(numbers("r"), [*code_rows, ("look", 0)], ("return", "r"))])
+        backs = Backs(code, [state_of(code, 0, 6, {"n": ("number", 0)})])
+        self.assertEqual(least_recipe(backs, 0, 0, "n"), ("times", reg("t4"), reg("u")))
+
     def test_it_must_tell_on_all_ways(self):
         rows = [("if", "a", 3), ("copy", "n", "a"), ("jump", 4), ("copy", "n", "b"), ("return", "n")]
         source = function_source(rows, numbers("a", "b"), numbers("n"))

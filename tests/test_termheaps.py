@@ -153,6 +153,7 @@ class TestEvents(HeapCase):
             self.heap.see(term)
         self.heap.leave([one])
         self.heap.see(one)
+        self.assertIsNone(self.heap.events()[3][1])
         told = [("see", X), ("see", O), ("see", "cell"), ("see", None), ("leave", [("out", 4, 0)], [("cell", [0, None])]), ("see", "cell")]
         self.assertEqual(self.events(), told)
 
@@ -438,6 +439,18 @@ class TestTwins(HeapCase):
         self.assertEqual([twin.status(one), twin.like(ahead, one)], ["out", "unlike"])
         self.assertEqual(self.told(twin.get(one, "item")), ("asked", "number", "get", ("out", 0, 0), "item", 1))
         self.assertEqual(self.read(twin.events()), self.events())
+
+    def test_a_twin_knows_what_was_written(self):
+        one = self.cell(item=self.constant(5))
+        self.heap.leave([one])
+        self.heap.put(self.thing("o"), "item", self.number("x"))
+        twin = self.heap.twin()
+        twin.put(self.thing("p"), "item", self.constant(3))
+        self.heap.put(self.thing("p"), "item", self.constant(4))
+        written = [O, X, ("out", 0, 0), 5]
+        told = [self.told(heap.get(self.thing("o"), "item")) for heap in (self.heap, twin)]
+        self.assertEqual(told, [("asked", "number", "get", O, "item", 0, P, value, *written) for value in (4, 3)])
+        self.assertEqual(self.told(twin.get(one, "item")), 5)
 
     def test_they_have_the_same_facts(self):
         twin = self.heap.twin()
