@@ -107,6 +107,13 @@ class TestSums(FactsCase):
         self.assertFalse(self.facts.assume(self.made("add", difference, 4), False))
         self.assertEqual(self.facts.zero(self.made("same", self.made("times", x, 2), self.made("add", self.made("times", y, 2), 8))), "other")
 
+    def test_what_such_a_sum_tells(self):
+        x, y = self.number("x"), self.number("y")
+        self.assertTrue(self.facts.assume(self.made("sub", x, self.made("add", y, 4)), True))
+        told = [self.made("same", x, self.made("add", y, 4)), self.made("less", y, x), self.made("same", x, y), self.made("less", x, self.made("add", y, 4))]
+        self.assertEqual([self.terms.parts(self.facts.known(term)) for term in told], [(1, []), (1, []), (0, []), (0, [])])
+        self.assertTrue(self.facts.known(self.made("add", told[0], y)) == self.made("add", y, 1))
+
     def test_values_that_are_no_ends(self):
         x = self.number("x")
         self.holds("less", 0, x)
