@@ -57,7 +57,8 @@ class GoneWay:
                 asked += 1
                 if not self.facts.assume(self.registers[end[1]], turn == 1):
                     return False
-            self._go_to(*end_goals(end)[turn])
+            goal, given = end_goals(end)[turn]
+            self._go_to(goal, given)
         return True
 
     def _do_row(self, row):

@@ -118,7 +118,7 @@ class Watch:
                 raise InvalidArgument("run")
             run.go_back()
         elif command[0] == "set":
-            set_variable(run, *command[1:])
+            set_variable(run, command[1], command[2], command[3])
         elif run.ended() is None:
             _go_on(run, command)
         self._done.append((command, self._run))
@@ -179,7 +179,7 @@ class Watch:
 
 def _go_on(run, command):
     """Let a run do the steps of a command, at least one."""
-    points = stops_at(run.backs, *command[1:]) if command[0] == "row" else []
+    points = stops_at(run.backs, command[1], command[2]) if command[0] == "row" else []
     run.step()
     done = 1
     while command[0] != "step" and run.ended() is None and not _is_there(run, command, points):

@@ -127,7 +127,8 @@ def _box(backs, most):
     for kind in kinds:
         span = list(range(-most, most + 1)) if kind == "number" else [None]
         lists = [[*values, value] for values in lists for value in span]
-    return [values for _, values in sorted([(_size_of(values), values) for values in lists])]
+    ranked = sorted([(_size_of(values), values) for values in lists])
+    return [values for _, values in ranked]
 
 
 def _size_of(values):

@@ -97,13 +97,15 @@ class Rewriter:
             return term
         if isinstance(term, ObjectTerm):
             return self._found[term.number]
-        changing = [self._changes([atom for atom, _ in held]) for _, held in term.pieces]
-        kept = [piece for piece, changes in zip(term.pieces, changing) if not changes]
+        kept = [piece for piece in term.pieces if not self._changes_piece(piece)]
         total = NumberTerm(term.integer, tuple(kept))
-        for (factor, held), changes in zip(term.pieces, changing):
-            if changes:
-                total = added(total, self._product(held), factor)
+        for piece in term.pieces:
+            if self._changes_piece(piece):
+                total = added(total, self._product(piece[1]), piece[0])
         return total
+
+    def _changes_piece(self, piece):
+        return self._changes([atom for atom, _ in piece[1]])
 
     def _changes(self, atoms):
         """Whether something stands in the place of one of the atoms."""

@@ -38,7 +38,7 @@ def number_atom(atom):
 
 
 def is_term(thing):
-    return isinstance(thing, (NumberTerm, ObjectTerm))
+    return isinstance(thing, NumberTerm) or isinstance(thing, ObjectTerm)
 
 
 def atoms_in(term):

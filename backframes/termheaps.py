@@ -83,7 +83,7 @@ class TermHeap:
         if atom not in self._known:
             return None
         title, fields = self._known[atom]
-        return (title, {field: self.now(fields[field]) for field in fields})
+        return (title, self._fields_now(fields))
 
     def events(self):
         return [_copied_event(event) for event in self._events]
@@ -135,11 +135,15 @@ class TermHeap:
             fields.append(held)
             waiting.extend([self._facts.known(held[field]) for field in reversed(list(held))])
         self._renaming.forget()
-        told = [{field: self.now(held[field]) for field in held} for held in fields]
+        told = [self._fields_now(held) for held in fields]
         for out, held in zip(outs, told):
             for field in held:
                 self._writes.setdefault(field, []).append((out, held[field]))
         return [(title, list(held.values())) for title, held in zip(titles, told)]
+
+    def _fields_now(self, held):
+        """A dict of fields with their terms as they are called now."""
+        return {field: self.now(held[field]) for field in held}
 
     def see(self, term):
         """Tell a value outside."""
