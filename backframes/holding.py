@@ -106,4 +106,3 @@ class Holding:
             fields = content[1]
             waiting.extend([fields[field] for field in fields if self._way.terms.kind(fields[field]) == "object"])
         return True
-
