@@ -9,8 +9,9 @@ from backframes.values import is_object, is_value
 
 MOST_COMMANDS = 30
 LENGTHS = {"step": 1, "point": 1, "row": 3, "back": 1, "set": 4}
-# Python does not write integers of more than a few thousand figures at once.
-FIGURES = 800
+# Python does not write integers of more than a few thousand figures at once, so they are written in groups.
+FIGURES = 60
+GROUP = 10 ** 60
 
 
 def told_frames(run):
@@ -207,10 +208,10 @@ def _part_text(part):
     if isinstance(part, str):
         return part
     sign = "-" if part < 0 else ""
-    left, last = divmod(abs(part), 10 ** FIGURES)
+    left, last = divmod(abs(part), GROUP)
     groups = [str(last)]
     while left > 0:
         groups[-1] = groups[-1].zfill(FIGURES)
-        left, last = divmod(left, 10 ** FIGURES)
+        left, last = divmod(left, GROUP)
         groups.append(str(last))
     return sign + "".join(groups[::-1])

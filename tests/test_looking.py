@@ -493,7 +493,9 @@ class TestWatch(unittest.TestCase):
         self.assertEqual(watch.text(), "ended nil\nlog object box\nlog nil\nlog number -7\n")
 
     def test_texts_of_great_numbers(self):
-        for number in (10 ** 5000, -(10 ** 4999) - 12, 10 ** 800, 10 ** 800 - 1, -(10 ** 1600) * 7):
+        edges = [10 ** k + more for k in (60, 120, 800, 801) for more in (-1, 0, 1)]
+        edges += [-number for number in edges] + [10 ** 119, 7 * 10 ** 179 + 10 ** 61, 12 ** 900]
+        for number in (*edges, 10 ** 5000, -(10 ** 4999) - 12, -(10 ** 1600) * 7):
             watch = Watch(example(), [0])
             watch.do(("point",))
             watch.do(("set", 0, "y", number))
