@@ -30,7 +30,8 @@ class Fingerprints:
         total = term.integer
         for factor, atoms in term.pieces:
             for atom, power in atoms:
-                factor = factor * self._atoms[atom] ** power % PRIME
+                for _ in range(power):
+                    factor = factor * self._atoms[atom] % PRIME
             total += factor
         return total % PRIME
 
