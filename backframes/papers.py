@@ -120,8 +120,7 @@ def _box(backs, most):
     if not is_integer_in(most, 0, GREATEST_SIZE):
         raise InvalidNumber(most)
     kinds = [kind for _, kind in backs.code.source.function_at(backs.code.owner()).params]
-    numbers = [kind for kind in kinds if kind == "number"]
-    if (2 * most + 1) ** len(numbers) > MOST_LISTS:
+    if _count_of_lists(kinds, most) > MOST_LISTS:
         raise LimitExceeded(MOST_LISTS)
     lists = [[]]
     for kind in kinds:
@@ -129,6 +128,15 @@ def _box(backs, most):
         lists = [[*values, value] for values in lists for value in span]
     ranked = sorted([(_size_of(values), values) for values in lists])
     return [values for _, values in ranked]
+
+
+def _count_of_lists(kinds, most):
+    """How many lists of arguments a box has."""
+    many = 1
+    for kind in kinds:
+        if kind == "number":
+            many *= 2 * most + 1
+    return many
 
 
 def _size_of(values):

@@ -1,4 +1,4 @@
-"""What can be seen of the files themselves: sizes, characters and imports."""
+"""What can be seen of the files themselves: sizes, characters, exponents and imports."""
 
 import ast
 import pathlib
@@ -27,6 +27,14 @@ class TestRules(unittest.TestCase):
             for node in ast.walk(ast.parse(path.read_text())):
                 if isinstance(node, ast.FunctionDef):
                     self.assertLessEqual(node.end_lineno - node.lineno + 1, 40, (path, node.name))
+
+    def test_exponents_are_written(self):
+        for path in FILES:
+            for node in ast.walk(ast.parse(path.read_text())):
+                if isinstance(node, (ast.BinOp, ast.AugAssign)) and isinstance(node.op, ast.Pow):
+                    exponent = node.right if isinstance(node, ast.BinOp) else node.value
+                    self.assertIsInstance(exponent, ast.Constant, (path, node.lineno))
+                    self.assertIn(exponent.value, range(65), (path, node.lineno))
 
     def test_imports_are_from_the_package_and_go_one_way(self):
         met = {}
